@@ -1,0 +1,249 @@
+"""The rules of ../shared/LANGUAGE.md that a look at the code of the package can tell.
+
+The package uses less than the rules let: no annotations, lambdas, generators, nested
+functions, stars or library imports. So these are barred here altogether.
+"""
+
+import ast
+import builtins
+import os
+import re
+import unittest
+
+ROOT = os.path.join(os.path.dirname(os.path.dirname(os.path.abspath(__file__))), "timesthrough")
+BUILTINS = set(dir(builtins))
+USED_BUILTINS = set(
+    "len range enumerate zip min max sum abs sorted reversed int str bool list tuple dict set isinstance repr any all "
+    "divmod ValueError TypeError KeyError IndexError LookupError ArithmeticError OverflowError NotImplemented".split())
+METHODS = set(
+    "append clear copy count endswith extend find get index insert isalnum isalpha isdigit islower isspace isupper items "
+    "join keys lower lstrip partition pop remove replace reverse rfind rstrip setdefault split startswith strip update "
+    "upper values".split())
+DOUBLE = {"__init__", "__eq__", "__str__", "__len__", "__bool__", "__add__", "__sub__", "__mul__", "__neg__"}
+BARRED_NAMES = set(
+    "register mro elements open input law version_info with_traceback add_note attrgetter breakpoint builtins compile "
+    "copyright credits delattr dir eval exec exit gc getattr globals hasattr help id importlib license locals "
+    "methodcaller os quit setattr super type vars sys".split())
+BARRED_WORDS = re.compile(
+    r"\b(type|typing|typing_extensions|enum|Enum|IntEnum|StrEnum|Flag|IntFlag|Generic|Protocol|ABC|ABCMeta|namedtuple|"
+    r"NamedTuple|TypedDict|TYPE_CHECKING|abstractmethod)\b|dataclass|overload|contextmanager|_wall|_WallAttr")
+BARRED_NODES = (
+    ast.Import, ast.Global, ast.Nonlocal, ast.AsyncFunctionDef, ast.Await, ast.AsyncFor, ast.AsyncWith, ast.Lambda,
+    ast.GeneratorExp, ast.Yield, ast.YieldFrom, ast.AnnAssign, ast.NamedExpr, ast.Starred, ast.With, ast.Delete,
+    ast.Set, ast.SetComp, ast.Match, ast.Div, ast.Assert)
+
+
+def files():
+    found = []
+    for folder, folders, names in os.walk(ROOT):
+        folders[:] = sorted(name for name in folders if name != "__pycache__")
+        found.extend(os.path.join(folder, name) for name in sorted(names))
+    return found
+
+
+def module_name(path):
+    parts = os.path.relpath(path, os.path.dirname(ROOT))[:-3].split(os.sep)
+    return ".".join(parts[:-1] if parts[-1] == "__init__" else parts)
+
+
+def bound(tree):
+    """The names that a file binds at module level, one for each time."""
+    names = []
+    for node in tree.body:
+        if isinstance(node, (ast.FunctionDef, ast.ClassDef)):
+            names.append(node.name)
+        elif isinstance(node, ast.Assign):
+            names.extend(target.id for target in node.targets)
+        elif isinstance(node, ast.ImportFrom):
+            names.extend(alias.name for alias in node.names)
+    return names
+
+
+def is_docstring(node):
+    return isinstance(node, ast.Expr) and isinstance(node.value, ast.Constant) and isinstance(node.value.value, str)
+
+
+class Language(unittest.TestCase):
+
+    @classmethod
+    def setUpClass(cls):
+        cls.texts = {}
+        for path in files():
+            with open(path, encoding="utf-8", newline="") as file:
+                cls.texts[path] = file.read()
+        cls.trees = {path: ast.parse(text) for path, text in cls.texts.items()}
+        cls.modules = {module_name(path): tree for path, tree in cls.trees.items()}
+        for tree in cls.trees.values():
+            for node in ast.walk(tree):
+                for child in ast.iter_child_nodes(node):
+                    child.parent = node
+
+    def each(self, *kinds):
+        for path, tree in self.trees.items():
+            for node in ast.walk(tree):
+                if isinstance(node, kinds):
+                    yield node, f"{path}:{getattr(node, 'lineno', 0)}"
+
+    def test_files(self):
+        self.assertTrue(len(self.texts) <= 100)
+        for path, text in self.texts.items():
+            name = os.path.basename(path)
+            self.assertTrue(re.fullmatch(r"[a-z][a-z0-9_]*\.py|__init__\.py", name), path)
+            self.assertIn(os.path.join(os.path.dirname(path), "__init__.py"), self.texts)
+            self.assertFalse(os.path.isdir(path[:-3]), path)
+            self.assertTrue(all(letter == "\n" or " " <= letter <= "~" for letter in text), path)
+            lines = text.split("\n")
+            self.assertTrue(len(lines) <= 399 and max(len(line) for line in lines) <= 120, path)
+            self.assertNotIn("_wall", text)
+
+    def test_module_level(self):
+        for path, tree in self.trees.items():
+            for at, node in enumerate(tree.body):
+                good = isinstance(node, (ast.FunctionDef, ast.ClassDef, ast.ImportFrom)) or at == 0 and is_docstring(node)
+                if isinstance(node, ast.Assign):
+                    good = len(node.targets) == 1 and isinstance(node.targets[0], ast.Name)
+                    good = good and not any(isinstance(part, (ast.Call, ast.Name, ast.List, ast.Dict))
+                                            for part in ast.walk(node.value))
+                self.assertTrue(good, f"{path}:{node.lineno}")
+            names = bound(tree)
+            self.assertEqual(len(names), len(set(names)), path)
+
+    def test_imports(self):
+        uses = {}
+        for name, tree in self.modules.items():
+            uses[name] = []
+            read = {node.id for node in ast.walk(tree) if isinstance(node, ast.Name)}
+            for node in ast.walk(tree):
+                if isinstance(node, ast.ImportFrom):
+                    self.assertEqual(node.level, 0)
+                    source = self.modules[node.module]
+                    own = [part.name for part in source.body if isinstance(part, (ast.FunctionDef, ast.ClassDef))]
+                    own += [part.targets[0].id for part in source.body if isinstance(part, ast.Assign)]
+                    for alias in node.names:
+                        self.assertIsNone(alias.asname)
+                        self.assertIn(alias.name, own, name)
+                        self.assertIn(alias.name, read, name)
+                        self.assertFalse(alias.name.startswith("_"), alias.name)
+                    uses[name].append(node.module)
+        done = []
+        while len(done) < len(uses):
+            ready = [name for name in uses if name not in done and all(other in done for other in uses[name])]
+            self.assertTrue(ready, "files that import from each other")
+            done.extend(ready)
+
+    def test_barred(self):
+        for node, spot in self.each(*BARRED_NODES):
+            self.fail(f"{spot}: {node.__class__.__name__}")
+        for node, spot in self.each(ast.Constant):
+            self.assertNotIsInstance(node.value, (float, complex, bytes), spot)
+            if isinstance(node.value, str):
+                self.assertNotIn("%", node.value, spot)
+                if not is_docstring(node.parent):
+                    self.assertFalse(BARRED_WORDS.search(node.value) or "__" in node.value, spot)
+        for node, spot in self.each(ast.BinOp):
+            if isinstance(node.op, ast.Pow):
+                self.assertTrue(isinstance(node.right, ast.Constant) and 0 <= node.right.value <= 64, spot)
+        for node, spot in self.each(ast.Compare):
+            for op, right in zip(node.ops, node.comparators):
+                if isinstance(op, (ast.Is, ast.IsNot)):
+                    self.assertTrue(isinstance(right, ast.Constant) and right.value in (None, True, False), spot)
+
+    def test_functions(self):
+        for node, spot in self.each(ast.FunctionDef):
+            self.assertTrue(node.end_lineno - node.lineno < 40, spot)
+            self.assertIsInstance(node.parent, (ast.Module, ast.ClassDef), spot)
+            arguments = node.args
+            self.assertFalse(arguments.vararg or arguments.kwarg or arguments.kwonlyargs or arguments.posonlyargs, spot)
+            self.assertFalse(node.returns or any(argument.annotation for argument in arguments.args), spot)
+            for decorator in node.decorator_list:
+                self.assertTrue(isinstance(decorator, ast.Name) and decorator.id == "property", spot)
+            if node.name.startswith("__"):
+                self.assertIn(node.name, DOUBLE, spot)
+        for node, spot in self.each(ast.ClassDef):
+            self.assertFalse(node.decorator_list or node.keywords, spot)
+            self.assertTrue(all(isinstance(part, ast.FunctionDef) or is_docstring(part) for part in node.body), spot)
+
+    def test_names(self):
+        for node, spot in self.each(ast.Name):
+            if isinstance(node.ctx, ast.Store):
+                self.assertFalse(node.id in BUILTINS | BARRED_NAMES or node.id.startswith("__"), spot)
+            elif node.id in BUILTINS:
+                decorator = isinstance(node.parent, ast.FunctionDef) and node.id == "property"
+                self.assertTrue(decorator or node.id in USED_BUILTINS, f"{spot} {node.id}")
+            self.assertFalse(node.id == "_" and isinstance(node.ctx, ast.Load), spot)
+        for node, spot in self.each(ast.arg):
+            self.assertNotIn(node.arg, BUILTINS | BARRED_NAMES, spot)
+        for node, spot in self.each(ast.FunctionDef, ast.ClassDef):
+            self.assertNotIn(node.name, BUILTINS | BARRED_NAMES, spot)
+
+    def test_names_of_imports_and_classes(self):
+        for path, tree in self.trees.items():
+            taken = {alias.name for node in tree.body if isinstance(node, ast.ImportFrom) for alias in node.names}
+            taken |= {node.name for node in tree.body if isinstance(node, ast.ClassDef)}
+            for node in ast.walk(tree):
+                if isinstance(node, ast.arg):
+                    self.assertNotIn(node.arg, taken, f"{path}:{node.lineno}")
+                if isinstance(node, ast.Name) and isinstance(node.ctx, ast.Store):
+                    self.assertNotIn(node.id, taken, f"{path}:{node.lineno}")
+
+    def test_methods_and_attributes(self):
+        own = {node.name for node, _ in self.each(ast.FunctionDef) if isinstance(node.parent, ast.ClassDef)}
+        stored = {node.attr for node, _ in self.each(ast.Attribute) if isinstance(node.ctx, ast.Store)}
+        for node, spot in self.each(ast.Attribute):
+            called = isinstance(node.parent, ast.Call) and node.parent.func is node
+            self.assertIn(node.attr, own | METHODS if called else own | stored, spot)
+        self.assertFalse(stored & METHODS)
+        self.assertFalse(stored & own)
+
+    def test_errors(self):
+        own = {node.name for node in self.modules["timesthrough.errors"].body if isinstance(node, ast.ClassDef)}
+        for node, spot in self.each(ast.Raise):
+            self.assertTrue(isinstance(node.exc, ast.Call) and node.exc.func.id in own and node.cause is None, spot)
+            self.assertEqual((len(node.exc.args), len(node.exc.keywords)), (1, 0), spot)
+        for node, spot in self.each(ast.ExceptHandler):
+            self.assertTrue(isinstance(node.type, ast.Name) and node.type.id in own and node.name is None, spot)
+
+    def test_iterated_at_once(self):
+        iterating = {"list", "tuple", "dict", "sorted", "sum", "any", "all", "enumerate", "zip", "min", "max"}
+        for node, spot in self.each(ast.Call):
+            name = getattr(node.func, "id", getattr(node.func, "attr", None))
+            if name in ("zip", "enumerate", "range", "reversed", "items", "keys", "values"):
+                looped = getattr(node.parent, "iter", None) is node
+                called = isinstance(node.parent, ast.Call) and getattr(node.parent.func, "id", None) in iterating
+                self.assertTrue(looped or called, spot)
+            if name == "set":
+                self.assertIn(getattr(node.parent.func, "id", None), ("len", "sorted"), spot)
+            for keyword in node.keywords:
+                self.assertEqual((name, keyword.arg), ("sorted", "reverse"), spot)
+
+    def test_each_interface_name_stands_in_its_file(self):
+        told = {
+            "timesthrough.errors": "ThroughError InvalidRow InvalidWord InvalidMap InvalidTable InvalidPoints InvalidForm "
+                "InvalidLot InvalidName InvalidWeights InvalidOperation ParseError InvalidNumber UnknownName NothingToUndo "
+                "TooMany Refused",
+            "timesthrough.base.rests": "LEAST_PRIME MOST_PRIME MAX_SIDE is_prime is_table rank reduced kernel solution "
+                "goal_bar is_goal_bar",
+            "timesthrough.plane.points": "MAX_POINTS is_point are_points point_of line_through are_in_line are_on_conic "
+                "is_let",
+            "timesthrough.plane.forms": "MAX_DEGREE MAX_CONDITIONS Form conditions curves count_at",
+            "timesthrough.rows.rows": "LEAST_POINTS MOST_POINTS MOST_DIGITS is_row cubic line_row point_row product square "
+                "with_cubic counting genus terms_of conditions_of added less multiplied",
+            "timesthrough.rows.moves": "MAX_WORD is_word undone moved map_of is_map moved_by joined back acts_alike",
+            "timesthrough.count.steps": "MAX_STEPS is_standard is_settled settled settling steps is_steps walked",
+            "timesthrough.count.counts": "count has_curves bar is_bar shows_no_more",
+            "timesthrough.rows.exceptional": "is_exceptional exceptional_rows word_to meetings met_by",
+        }
+        for name, names in told.items():
+            own = [node.name for node in self.modules[name].body if isinstance(node, (ast.FunctionDef, ast.ClassDef))]
+            own += [node.targets[0].id for node in self.modules[name].body if isinstance(node, ast.Assign)]
+            for asked in names.split():
+                self.assertIn(asked, own, name)
+        form = [node for node in self.modules["timesthrough.plane.forms"].body if isinstance(node, ast.ClassDef)][0]
+        methods = [node.name for node in form.body if isinstance(node, ast.FunctionDef)]
+        for asked in ("prime", "degree", "terms", "at", "times_at", "__add__", "__sub__", "__mul__", "__neg__",
+                      "__bool__", "__len__", "__eq__", "__str__"):
+            self.assertIn(asked, methods)
+
+
+if __name__ == "__main__":
+    unittest.main()

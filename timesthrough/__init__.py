@@ -1,0 +1,1 @@
+"""Timesthrough: curves that pass a told number of times through points."""

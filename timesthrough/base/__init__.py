@@ -1,0 +1,1 @@
+"""Integers and tables of rests."""

@@ -1,0 +1,47 @@
+"""Integers as they may be passed, and choices of things."""
+
+# The least integer of more than 200 digits.
+_TOO_LONG = (10 ** 50) ** 4
+
+
+def is_short(number):
+    """Whether an integer has at most 200 digits."""
+    return -_TOO_LONG < number < _TOO_LONG
+
+
+def are_short(numbers):
+    """Whether all integers of a sequence have at most 200 digits."""
+    return all([is_short(number) for number in numbers])
+
+
+def is_integer(value):
+    """Whether the value is an integer that may be passed."""
+    return isinstance(value, int) and not isinstance(value, bool) and is_short(value)
+
+
+def is_from_to(value, least, most):
+    """Whether the value is an integer within these bounds, both included."""
+    return is_integer(value) and least <= value <= most
+
+
+def choices(things, size):
+    """All tuples of so many of the things, each in the order of the things."""
+    if size == 0:
+        return [()]
+    found = []
+    for at in range(len(things)):
+        for others in choices(things[at + 1:], size - 1):
+            found.append((things[at],) + others)
+    return found
+
+
+def orders(things):
+    """All different tuples that have just these integers, in any order."""
+    if len(things) == 0:
+        return [()]
+    found = []
+    for first in sorted(set(things)):
+        at = things.index(first)
+        for others in orders(things[:at] + things[at + 1:]):
+            found.append((first,) + others)
+    return found

@@ -1,0 +1,1 @@
+"""Standard rows, steps, and counts at general points."""

@@ -1,0 +1,196 @@
+"""Settled rows, the falling walk, and steps to standard rows."""
+
+from timesthrough.base.values import is_from_to
+from timesthrough.errors import InvalidOperation, Refused, TooMany
+from timesthrough.rows.moves import do_move, is_move, moved_far
+from timesthrough.rows.rows import FEW_POINTS, check_few, product_of, product_with_cubic, short_row
+
+MAX_STEPS = 2000
+
+# A row of nine points whose falling walk has more turns is too far.
+_MOST_TURNS = 1900
+
+
+def is_standard(row):
+    """Whether no number is below 0, and no three are together above the degree."""
+    check_few(row)
+    return stands(row)
+
+
+def is_settled(row):
+    """Whether the numbers do not ascend, and the first three are not above the degree."""
+    check_few(row)
+    numbers = row[1:]
+    return list(numbers) == sorted(numbers, reverse=True) and row[0] >= sum(numbers[:3])
+
+
+def settled(row):
+    """The only settled row to which the row is led."""
+    return _settled_and_word(row)[0]
+
+
+def settling(row):
+    """A word that leads to the settled row."""
+    return _settled_and_word(row)[1]
+
+
+def steps(row):
+    """Steps that lead the row to a standard row."""
+    check_few(row)
+    if is_level_or_below(row):
+        if not is_cubic_times(row):
+            raise Refused(("none",))
+        return ()
+    word, end = settle(row)
+    if barring(end) is not None:
+        raise Refused(("none",))
+    turns = [move for move in word if move[0] == "turn"]
+    return tuple(turns + finish(moved_far(row, turns))[0])
+
+
+def is_steps(row, value):
+    """Whether the value is steps that lead the row to a standard row."""
+    check_few(row)
+    entries = _stepped(row, value)
+    return entries is not None and stands(entries)
+
+
+def walked(row, value):
+    """The row to which steps lead."""
+    check_few(row)
+    entries = _stepped(row, value)
+    if entries is None:
+        raise InvalidOperation("no steps that can be done")
+    return short_row(entries)
+
+
+def stands(entries):
+    """Whether the entries are those of a standard row, also longer ones."""
+    numbers = sorted(entries[1:], reverse=True)
+    return numbers[-1] >= 0 and entries[0] >= sum(numbers[:3])
+
+
+def is_level_or_below(row):
+    """Whether it is a row of nine points that meets the cubic 0 times or below."""
+    return len(row) == FEW_POINTS + 1 and product_with_cubic(row) <= 0
+
+
+def is_cubic_times(row):
+    """Whether the row is the cubic times an integer that is not below 0."""
+    times = row[1]
+    return times >= 0 and row == (3 * times,) + (times,) * (len(row) - 1)
+
+
+def settle(row):
+    """A word, and the entries of the settled row to which it leads; TooMany if too far.
+
+    A row of nine points has to meet the cubic above 0 times.
+    """
+    entries, shadow = list(row), _shadow(len(row) - 1)
+    word = []
+    places = _falling(entries, shadow)
+    while entries[0] < sum([entries[at + 1] for at in places[:3]]):
+        if len(word) == _MOST_TURNS:
+            raise TooMany(MAX_STEPS)
+        turn = ("turn",) + tuple(sorted(places[:3]))
+        do_move(entries, turn)
+        do_move(shadow, turn)
+        word.append(turn)
+        places = _falling(entries, shadow)
+    word.extend(_sorting_swaps(places))
+    return tuple(word), tuple([entries[0]] + [entries[at + 1] for at in places])
+
+
+def barring(end):
+    """A standard row that meets the end of a falling walk below 0; None if there are curves."""
+    # If the end meets these two at least 0 times, it meets the other plain rows, as
+    # (2, 1, 1, 0, ..) and the cubic, so as well: the degree is not below 0, nor below the
+    # sum of the first three numbers, so each of the numbers behind is at most a third of it.
+    zeros = (0,) * (len(end) - 2)
+    for plain in ((1, 0) + zeros, (1, 1) + zeros):
+        if product_of(plain, end) < 0:
+            return plain
+    return None
+
+
+def finish(end):
+    """Steps from the end of the falling walk of a row with curves, and the standard entries there."""
+    entries = list(end)
+    made = []
+    while not stands(entries):
+        step = _next_step(entries)
+        _do_step(entries, step)
+        made.append(step)
+    return made, entries
+
+
+def _settled_and_word(row):
+    check_few(row)
+    if is_level_or_below(row):
+        raise Refused(("cubic",))
+    word, end = settle(row)
+    return short_row(end), word
+
+
+def _shadow(many):
+    """The entries of a row by which a walk chooses among points with equal numbers.
+
+    All numbers of this row differ, and it is settled without meeting any root 0 times.
+    So the walk is that of a row just beside the given one, which has no equal numbers
+    on its way. A standard row that is led back by its word has no longer walk than this.
+    """
+    return [3 * many] + list(range(many, 0, -1))
+
+
+def _falling(entries, shadow):
+    """The points, those with the greatest numbers first."""
+    ranked = [(entries[at], shadow[at], at - 1) for at in range(1, len(entries))]
+    return [rank[2] for rank in sorted(ranked, reverse=True)]
+
+
+def _sorting_swaps(places):
+    """Swaps that bring the points at these places to the places 0, 1, .. in order."""
+    there = list(range(len(places)))
+    swaps = []
+    for at, wanted in enumerate(places):
+        found = there.index(wanted)
+        if found != at:
+            swaps.append(("swap", at, found))
+            there[at], there[found] = there[found], there[at]
+    return swaps
+
+
+def _next_step(entries):
+    below = [at for at in range(len(entries) - 1) if entries[at + 1] < 0]
+    if len(below) > 0:
+        return ("off", below[0])
+    places = _falling(entries, _shadow(len(entries) - 1))
+    return ("turn",) + tuple(sorted(places[:3]))
+
+
+def _stepped(row, value):
+    """The entries to which the value leads the row, None if it is no steps for it."""
+    if not isinstance(value, tuple) or len(value) > MAX_STEPS:
+        return None
+    entries = list(row)
+    for step in value:
+        if not _can_step(entries, step):
+            return None
+        _do_step(entries, step)
+    return entries
+
+
+def _can_step(entries, step):
+    many = len(entries) - 1
+    if is_move(many, step):
+        return step[0] == "turn"
+    if not isinstance(step, tuple) or len(step) != 2 or step[0] != "off":
+        return False
+    return is_from_to(step[1], 0, many - 1) and entries[step[1] + 1] < 0
+
+
+def _do_step(entries, step):
+    if step[0] == "off":
+        entries[step[1] + 1] = 0
+    else:
+        do_move(entries, step)

@@ -1,0 +1,1 @@
+"""Points and polynomials over a prime."""

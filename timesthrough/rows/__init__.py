@@ -1,0 +1,1 @@
+"""Rows, their moves, and exceptional rows."""

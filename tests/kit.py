@@ -75,3 +75,31 @@ def small_rows(n, degrees, numbers):
     for _ in range(n):
         tuples = [some + (number,) for some in tuples for number in numbers if not some or number <= some[-1]]
     return [(degree,) + some for degree in degrees for some in tuples]
+
+
+def near_values(value):
+    """Values that are nearly the given one: one part changed, left out, doubled or exchanged with the next one."""
+    if isinstance(value, int):
+        return [value + 1, value - 1, -value, value + 10 ** 200, None, str(value), (value,), [value]] + (
+            [bool(value)] if value in (0, 1) else [])
+    if isinstance(value, str):
+        return [value + "s", value[:-1], value.upper(), (value,), None, 1]
+    found = [list(value), value + (None,), value + (0,), (value,), None, {at: part for at, part in enumerate(value)}]
+    for at, part in enumerate(value):
+        found.extend(value[:at] + (near,) + value[at + 1:] for near in near_values(part))
+        found.extend([value[:at] + value[at + 1:], value[:at + 1] + value[at:]])
+        if at + 1 < len(value):
+            found.append(value[:at] + (value[at + 1], part) + value[at + 2:])
+    return found
+
+
+def are_plain(value):
+    """Whether the value consists of tuples, strings, and integers of at most 200 digits alone."""
+    if isinstance(value, tuple):
+        return all(are_plain(part) for part in value)
+    return isinstance(value, str) or isinstance(value, int) and not isinstance(value, bool) and abs(value) <= GREATEST
+
+
+def is_just(value, told):
+    """Whether both are equal, and alike in the kinds of all their parts."""
+    return repr(value) == repr(told)

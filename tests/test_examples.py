@@ -4,13 +4,21 @@ import unittest
 
 from tests.kit import CIRCLE, FIVE, FOUR, SEXTIC
 from timesthrough.base.rests import kernel, rank, reduced
+from timesthrough.change.changes import change_word, is_change_row
 from timesthrough.count.counts import count
+from timesthrough.count.free import has_base_point, is_free, met, pencil_of
+from timesthrough.count.parts import parts
 from timesthrough.count.steps import settled, walked
+from timesthrough.lots.apart import are_apart, further, kind_of, line_of
+from timesthrough.lots.names import pairs, partner, sixes, third, threes, threes_of
+from timesthrough.mirrors.led import how_many, led, led_rows, parting
+from timesthrough.mirrors.roots import group_order, is_positive, is_root, roots, turned
+from timesthrough.nine.lattice import exceptional_of, lattice_of, lattice_rows, norm, unfolded
 from timesthrough.plane.forms import count_at
 from timesthrough.plane.points import are_on_conic, is_let
 from timesthrough.rows.exceptional import exceptional_rows, is_exceptional
 from timesthrough.rows.moves import map_of, moved
-from timesthrough.rows.rows import counting, genus, product, square, with_cubic
+from timesthrough.rows.rows import counting, cubic, genus, point_row, product, square, with_cubic
 
 
 class Examples(unittest.TestCase):
@@ -46,6 +54,47 @@ class Examples(unittest.TestCase):
     def test_exceptional(self):
         found = [is_exceptional((1, 1, 1, 0)), exceptional_rows(3)[:4], len(exceptional_rows(7))]
         self.assertEqual(found, [True, ((0, -1, 0, 0), (0, 0, -1, 0), (0, 0, 0, -1), (1, 0, 1, 1)), 56])
+
+    def test_parts(self):
+        self.assertEqual(parts((4, 2, 2, 2, 2, 2)), ((0, 0, 0, 0, 0, 0), (((2, 1, 1, 1, 1, 1), 2),)))
+
+    def test_free(self):
+        found = [is_free((4, 2, 2, 1, 1, 1)), met((5, 3, 3, 1)), pencil_of((4, 2, 2, 2, 2)), has_base_point((3,) + (1,) * 8)]
+        self.assertEqual(found, [True, (1, 1, 1, 0), (2, (2, 1, 1, 1, 1)), True])
+
+    def test_roots(self):
+        found = [is_root((1, 1, 1, 1)), is_positive((0, 1, -1, 0)), len(roots(3)),
+                 turned((2, 1, 1, 0, 1), (1, 1, 1, 0, 1)), group_order(6)]
+        self.assertEqual(found, [True, False, 8, (1, 0, 0, 0, 0), 51840])
+
+    def test_led(self):
+        line, other = (1, 0, 0, 0, 0, 0, 0, 0, 0), (3, 1, 1, 1, 1, 1, 1, 1, -1)
+        found = [led(line, other), parting(other, line) == (other, line), how_many(line), how_many(other),
+                 led_rows((1, 0, 0, 0))]
+        self.assertEqual(found, [None, True, 17280, 240, ((1, 0, 0, 0), (2, 1, 1, 1))])
+
+    def test_lattice(self):
+        a = (0, 1, -1, 0, 0, 0, 0, 0, 0)
+        found = [norm(a), exceptional_of(a), lattice_of(point_row(9, 8)), unfolded(cubic(9)),
+                 [len(lattice_rows(number)) for number in (0, 2, 4)]]
+        self.assertEqual(found, [2, (3, 2, 0, 1, 1, 1, 1, 1, 1, 0), (0, 0, 0, 0, 0, 0, 0, 0, 0),
+                                 (0, (0, 0, 0, 0, 0, 0, 0, 0, 0), 1), [1, 240, 2160]])
+
+    def test_apart(self):
+        lot = ((2, 1, 1, 1, 1, 1), (1, 1, 1, 0, 0, 0), (1, 1, 0, 1, 0, 0), (1, 1, 0, 0, 1, 0), (1, 1, 0, 0, 0, 1))
+        found = [are_apart(lot), kind_of(lot), line_of(lot), further(lot[:4]), kind_of(((1, 1, 1, 0), (0, 0, 0, -1)))]
+        self.assertEqual(found, [True, "points", (3, 2, 1, 1, 1, 1), ((1, 1, 0, 0, 0, 1),), "rulings"])
+
+    def test_names(self):
+        e0, l01 = (0, -1, 0, 0, 0, 0, 0), (1, 1, 1, 0, 0, 0, 0)
+        found = [third(e0, l01), len(threes_of(e0)), len(threes()), len(sixes()), len(pairs(7)),
+                 partner((0, -1, 0, 0, 0, 0, 0, 0))]
+        self.assertEqual(found, [(2, 1, 0, 1, 1, 1, 1), 5, 45, 36, 28, (3, 2, 1, 1, 1, 1, 1, 1)])
+
+    def test_changes(self):
+        found = [is_change_row((2, 1, 1, 1)), is_change_row((5, 3, 3, 1, 1, 1, 1, 1, 1)), change_word((1, 1, 0, 0)),
+                 moved((1, 0, 0, 0), change_word((2, 1, 1, 1)))]
+        self.assertEqual(found, [True, False, None, (2, 1, 1, 1)])
 
 
 if __name__ == "__main__":

@@ -232,6 +232,20 @@ class Language(unittest.TestCase):
             "timesthrough.count.steps": "MAX_STEPS is_standard is_settled settled settling steps is_steps walked",
             "timesthrough.count.counts": "count has_curves bar is_bar shows_no_more",
             "timesthrough.rows.exceptional": "is_exceptional exceptional_rows word_to meetings met_by",
+            "timesthrough.count.parts": "parts is_parts met_below clash surplus are_independent",
+            "timesthrough.count.free": "is_free free_word is_free_word met is_met is_one_curve pencil_of has_base_point",
+            "timesthrough.mirrors.roots": "MAX_LETTERS is_root is_positive roots turned root_word simple_of word_of "
+                "turned_roots length least_simple passed is_least group_order",
+            "timesthrough.mirrors.led": "led does_lead parting keepers keeper_order through_keepers is_through_keepers "
+                "how_many led_rows",
+            "timesthrough.nine.lattice": "MOST_NORM MOST_LED is_lattice_row norm lattice_rows unfolded folded_row "
+                "exceptional_of lattice_of shifted shift_word divisor end_of led_nine are_led_nine",
+            "timesthrough.lots.apart": "are_apart kind_of further to_points to_rulings line_of rulings_of lots_count "
+                "whole_lots blown_down blown_up",
+            "timesthrough.lots.names": "is_renaming renaming_of names_word names_bar is_names_bar renaming_by third "
+                "threes threes_of other_half sixes partner pairs",
+            "timesthrough.change.changes": "is_change_row change_word change_map change_rows",
+            "timesthrough.change.moved": "turned_points turned_form",
         }
         for name, names in told.items():
             own = [node.name for node in self.modules[name].body if isinstance(node, (ast.FunctionDef, ast.ClassDef))]

@@ -45,3 +45,21 @@ def orders(things):
         for others in orders(things[:at] + things[at + 1:]):
             found.append((first,) + others)
     return found
+
+
+def is_same(value, told):
+    """Whether the value is just this integer, or this nested tuple of integers; True is not 1."""
+    if not isinstance(told, tuple):
+        return is_integer(value) and value == told
+    if not isinstance(value, tuple) or len(value) != len(told):
+        return False
+    return all([is_same(part, other) for part, other in zip(value, told)])
+
+
+def greatest_divisor(numbers):
+    """The greatest integer that divides all of the integers, 0 if they are all 0."""
+    found = 0
+    for number in numbers:
+        while number != 0:
+            found, number = number, found % number
+    return abs(found)

@@ -1,6 +1,6 @@
 """How many curves rows have at general points, and bars that show that there are none."""
 
-from timesthrough.count.steps import barring, finish, is_cubic_times, is_level_or_below, settle, stands
+from timesthrough.count.steps import barring, finish, is_cubic_times, is_free_row, is_level_or_below, settle
 from timesthrough.errors import InvalidPoints, TooMany
 from timesthrough.plane.forms import count_at
 from timesthrough.plane.points import are_points
@@ -60,10 +60,7 @@ def shows_no_more(row, prime, points):
 
 def _is_free_and_near(row):
     """Whether moves lead the row to a standard row, and it is not too far."""
-    if is_level_or_below(row):
-        return is_cubic_times(row)
     try:
-        _, end = settle(row)
+        return is_free_row(row)
     except TooMany:
         return False
-    return stands(end)

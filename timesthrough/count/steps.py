@@ -8,7 +8,7 @@ from timesthrough.rows.rows import FEW_POINTS, check_few, product_of, product_wi
 MAX_STEPS = 2000
 
 # A row of nine points whose falling walk has more turns is too far.
-_MOST_TURNS = 1900
+MOST_TURNS = 1900
 
 
 def is_standard(row):
@@ -81,16 +81,36 @@ def is_cubic_times(row):
     return times >= 0 and row == (3 * times,) + (times,) * (len(row) - 1)
 
 
+def is_free_row(row):
+    """Whether moves lead the row to a standard row; TooMany if it is too far."""
+    if is_level_or_below(row):
+        return is_cubic_times(row)
+    _, end = settle(row)
+    return stands(end)
+
+
+def shadow_row(n):
+    """A settled row whose numbers all differ, and which meets no root 0 times.
+
+    No two maps take it to one row. So a word that leads it back from where a map took it
+    undoes the map: the word of settle for this row does so.
+    """
+    return (3 * n,) + tuple(range(n, 0, -1))
+
+
 def settle(row):
     """A word, and the entries of the settled row to which it leads; TooMany if too far.
 
-    A row of nine points has to meet the cubic above 0 times.
+    The entries may be of any length. A row of nine points has to meet the cubic above 0 times.
     """
-    entries, shadow = list(row), _shadow(len(row) - 1)
+    # By the shadow the walk chooses among points with equal numbers: so it is that of a row
+    # just beside the given one, which has no equal numbers on its way. A standard row that
+    # is led back by its word has no longer walk than this.
+    entries, shadow = list(row), list(shadow_row(len(row) - 1))
     word = []
     places = _falling(entries, shadow)
     while entries[0] < sum([entries[at + 1] for at in places[:3]]):
-        if len(word) == _MOST_TURNS:
+        if len(word) == MOST_TURNS:
             raise TooMany(MAX_STEPS)
         turn = ("turn",) + tuple(sorted(places[:3]))
         do_move(entries, turn)
@@ -99,6 +119,14 @@ def settle(row):
         places = _falling(entries, shadow)
     word.extend(_sorting_swaps(places))
     return tuple(word), tuple([entries[0]] + [entries[at + 1] for at in places])
+
+
+def falling_turn(entries):
+    """The next turn of the falling walk, None at its end; of equal numbers the first ones are taken."""
+    places = _falling(entries, shadow_row(len(entries) - 1))[:3]
+    if entries[0] >= sum([entries[at + 1] for at in places]):
+        return None
+    return ("turn",) + tuple(sorted(places))
 
 
 def barring(end):
@@ -132,16 +160,6 @@ def _settled_and_word(row):
     return short_row(end), word
 
 
-def _shadow(many):
-    """The entries of a row by which a walk chooses among points with equal numbers.
-
-    All numbers of this row differ, and it is settled without meeting any root 0 times.
-    So the walk is that of a row just beside the given one, which has no equal numbers
-    on its way. A standard row that is led back by its word has no longer walk than this.
-    """
-    return [3 * many] + list(range(many, 0, -1))
-
-
 def _falling(entries, shadow):
     """The points, those with the greatest numbers first."""
     ranked = [(entries[at], shadow[at], at - 1) for at in range(1, len(entries))]
@@ -164,8 +182,7 @@ def _next_step(entries):
     below = [at for at in range(len(entries) - 1) if entries[at + 1] < 0]
     if len(below) > 0:
         return ("off", below[0])
-    places = _falling(entries, _shadow(len(entries) - 1))
-    return ("turn",) + tuple(sorted(places[:3]))
+    return falling_turn(entries)
 
 
 def _stepped(row, value):

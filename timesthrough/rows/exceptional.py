@@ -4,10 +4,7 @@ from timesthrough.base.values import are_short, is_integer, orders
 from timesthrough.count.steps import settle
 from timesthrough.errors import InvalidNumber, InvalidOperation, TooMany
 from timesthrough.rows.moves import undone
-from timesthrough.rows.rows import MOST_DIGITS, check_few, check_many, product_of, product_with_cubic
-
-# There are finitely many of them for so many points.
-_MOST_LISTED = 8
+from timesthrough.rows.rows import FINITE_POINTS, MOST_DIGITS, check_few, check_many, product_of, product_with_cubic
 
 # The degrees of exceptional rows to eight points, and their numbers other than 0.
 _PATTERNS = (
@@ -29,7 +26,7 @@ def is_exceptional(row):
 
 def exceptional_rows(n):
     """All exceptional rows of 3 to 8 points, ascending."""
-    check_many(n, _MOST_LISTED)
+    check_many(n, FINITE_POINTS)
     found = []
     for degree, numbers in _PATTERNS:
         if len(numbers) <= n:
@@ -48,7 +45,7 @@ def word_to(row):
 
 def meetings(row):
     """The products of the row with all exceptional rows, in their order."""
-    check_few(row, _MOST_LISTED)
+    check_few(row, FINITE_POINTS)
     products = [product_of(row, other) for other in exceptional_rows(len(row) - 1)]
     if not are_short(products):
         raise TooMany(MOST_DIGITS)
@@ -57,7 +54,7 @@ def meetings(row):
 
 def met_by(row, number):
     """The exceptional rows that meet the row this number of times, ascending."""
-    check_few(row, _MOST_LISTED)
+    check_few(row, FINITE_POINTS)
     if not is_integer(number):
         raise InvalidNumber(number)
     return tuple([other for other in exceptional_rows(len(row) - 1) if product_of(row, other) == number])

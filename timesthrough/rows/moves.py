@@ -16,21 +16,21 @@ def is_word(n, value):
 
 def undone(word):
     """The word with the same moves, the last one first."""
-    _check_word(MOST_POINTS, word)
+    check_word(MOST_POINTS, word)
     return word[::-1]
 
 
 def moved(row, word):
     """The row that a word makes of a row."""
     check_row(row)
-    _check_word(len(row) - 1, word)
+    check_word(len(row) - 1, word)
     return short_row(moved_far(row, word))
 
 
 def map_of(n, word):
     """The map that takes the unit rows to what the word makes of them."""
     check_many(n, MOST_POINTS)
-    _check_word(n, word)
+    check_word(n, word)
     return tuple([short_row(entries) for entries in _moved_units(n, word)])
 
 
@@ -49,14 +49,14 @@ def moved_by(row, told_map):
     """What a map takes a row to."""
     check_row(row)
     _check_map(told_map, len(row))
-    return short_row(_taken(row, told_map))
+    return short_row(taken_by(row, told_map))
 
 
 def joined(one, other):
     """The map that takes each row to where the second takes what the first takes it to."""
     _check_map(one, None)
     _check_map(other, len(one))
-    return tuple([short_row(_taken(row, other)) for row in one])
+    return tuple([short_row(taken_by(row, other)) for row in one])
 
 
 def back(told_map):
@@ -69,9 +69,15 @@ def back(told_map):
 def acts_alike(n, one, other):
     """Whether two words of n points make the same row of each row."""
     check_many(n, MOST_POINTS)
-    _check_word(n, one)
-    _check_word(n, other)
+    check_word(n, one)
+    check_word(n, other)
     return _moved_units(n, one) == _moved_units(n, other)
+
+
+def check_word(n, word):
+    """Raises InvalidWord unless the argument is a word of n points; n was checked."""
+    if not _is_word(n, word):
+        raise InvalidWord("no word of so many points")
 
 
 def is_move(n, value):
@@ -104,6 +110,12 @@ def moved_far(row, word):
     return entries
 
 
+def taken_by(row, told_map):
+    """The entries to which a map takes a row, however long; nothing is checked."""
+    factors = [row[0]] + [-number for number in row[1:]]
+    return [sum([factor * line[at] for factor, line in zip(factors, told_map)]) for at in range(len(row))]
+
+
 def unit_rows(n):
     """The row of lines and the n point rows."""
     return [line_row(n)] + [point_row(n, index) for index in range(n)]
@@ -113,11 +125,6 @@ def _is_word(n, value):
     if not isinstance(value, tuple) or len(value) > MAX_WORD:
         return False
     return all([is_move(n, move) for move in value])
-
-
-def _check_word(n, word):
-    if not _is_word(n, word):
-        raise InvalidWord("no word of so many points")
 
 
 def _check_map(told_map, many):
@@ -133,12 +140,6 @@ def _keeps_unit_products(rows, at):
     own = 1 if at == 0 else -1
     told = [product_of(rows[at], row) for row in rows[:at + 1]]
     return told == [0] * at + [own]
-
-
-def _taken(row, told_map):
-    """The sum of the rows of the map, each as often as the row tells."""
-    factors = [row[0]] + [-number for number in row[1:]]
-    return [sum([factor * line[at] for factor, line in zip(factors, told_map)]) for at in range(len(row))]
 
 
 def _moved_units(n, word):

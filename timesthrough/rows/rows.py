@@ -10,6 +10,9 @@ MOST_DIGITS = 200
 # Rows of general points, whose curves a rule tells, have at most so many points.
 FEW_POINTS = 9
 
+# There are finitely many exceptional rows, roots and maps of words for at most so many.
+FINITE_POINTS = 8
+
 
 def is_row(value):
     """Whether the value is a row of 3 to 16 points."""
@@ -84,13 +87,13 @@ def conditions_of(row):
 def added(one, other):
     """The row of the sums of the entries."""
     check_rows(one, other)
-    return short_row([left + right for left, right in zip(one, other)])
+    return short_row(plus_times(one, 1, other))
 
 
 def less(one, other):
     """The row of the differences of the entries."""
     check_rows(one, other)
-    return short_row([left - right for left, right in zip(one, other)])
+    return short_row(plus_times(one, -1, other))
 
 
 def multiplied(count, row):
@@ -133,6 +136,11 @@ def short_row(entries):
     if not are_short(entries):
         raise TooMany(MOST_DIGITS)
     return tuple(entries)
+
+
+def plus_times(one, times, other):
+    """The sum of the entries of a row and of those of another one, so many times."""
+    return tuple([left + times * right for left, right in zip(one, other)])
 
 
 def product_of(one, other):

@@ -1,0 +1,1 @@
+"""Changes of the plane."""

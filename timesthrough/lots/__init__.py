@@ -1,0 +1,1 @@
+"""Exceptional rows that do not meet, and renamings of them."""

@@ -130,6 +130,11 @@ class Changes(unittest.TestCase):
                     too_many(self, 2000, change_map, row)
                 else:
                     self.assertEqual((change_word(row), change_map(row)), (None, None))
+        # A number below 0 on the way, where the walk is long: no change row.
+        far = by_hand(line_row(9), climbing(9, 1950))
+        too_many(self, 2000, change_word, far + (0,))
+        for row in (far + (-1,), far[:1] + (-1,) + far[1:], far[:5] + (-2,) + far[5:]):
+            self.assertEqual((is_change_row(row), change_word(row), change_map(row)), (False, None, None))
         # The walk of this row never ends, and comes to a degree below 1.
         low = climbed((0, 1, -1) + (0,) * 7, 1000)
         self.assertEqual((walk(low, 10 ** 6), is_change_row(low), change_word(low)), ("other", False, None))

@@ -160,6 +160,8 @@ class Lattice(unittest.TestCase):
         for row in ((GREATEST,) + (0,) * 9, (0,) + (GREATEST, GREATEST, GREATEST) + (0,) * 6):
             too_many(self, 200, unfolded, row)
         self.assertEqual(unfolded((0,) * 9 + (-GREATEST,)), (GREATEST, (0,) * 9, 0))
+        # Here f alone is longer than 200 digits.
+        too_many(self, 200, unfolded, (15,) + (5,) * 8 + (-GREATEST,))
         near = (0, 10 ** 99, -10 ** 99) + (0,) * 6
         self.assertEqual(lattice_of(exceptional_of(near)), near)
         too_many(self, 200, exceptional_of, long)
@@ -174,6 +176,7 @@ class Lattice(unittest.TestCase):
         for call in (unfolded, end_of, lattice_of):
             refuses(self, call, (P,), 0, InvalidRow, NO_NINES)
         refuses(self, lattice_of, (P,), 0, InvalidRow, [K, line_row(9), (0,) * 10, nine(A), less(P, K)])
+        refuses(self, lattice_of, (P,), 0, InvalidRow, [FIVE, point_row(8, 7), point_row(3, 0)])
         refuses(self, lattice_rows, (0,), 0, InvalidNumber, wrong_values() + [-2, 1, 3, 5, 6, 8, "2", (2,)])
         good = (1, A, 0)
         refuses(self, folded_row, good, 0, InvalidNumber, wrong_values() + ["1", (1,)])

@@ -127,6 +127,9 @@ class Led(unittest.TestCase):
         for call in (led, parting):
             refuses(self, call, (FIVE, FIVE), 0, InvalidRow, EIGHT)
             refuses(self, call, (FIVE, FIVE), 1, InvalidRow, EIGHT + [cubic(5), cubic(7)])
+            for n in (9, 10, 16):
+                caught(self, InvalidRow, call, cubic(n), cubic(n))
+        caught(self, InvalidRow, does_lead, cubic(9), cubic(9), ())
         refuses(self, does_lead, (FIVE, FIVE, ()), 0, InvalidRow, EIGHT)
         refuses(self, does_lead, (FIVE, FIVE, ()), 1, InvalidRow, EIGHT + [cubic(5), cubic(7)])
 

@@ -169,6 +169,6 @@ def _to_last_points(lot):
         entries = moved_far(lot[at], moves)[:many + 1]
         if many >= LEAST_POINTS:
             moves.extend(settle(entries)[0])
-        elif many == 2 and entries == [0, -1, 0]:
+        elif entries == [0, -1, 0]:
             moves.append(("swap", 0, 1))
     return moves

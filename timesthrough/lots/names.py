@@ -4,7 +4,7 @@ from timesthrough.count.steps import settle, shadow_row
 from timesthrough.errors import InvalidLot, InvalidName, InvalidNumber, InvalidRow, Refused
 from timesthrough.lots.apart import are_apart, line_with, whole_lots
 from timesthrough.rows.exceptional import exceptional_rows, is_exceptional
-from timesthrough.rows.moves import check_word, moved, taken_by, undone
+from timesthrough.rows.moves import map_of, taken_by, undone
 from timesthrough.rows.rows import FINITE_POINTS, check_many, cubic, is_row, plus_times, point_row, product_of
 
 # Threes and sixes are of so many points.
@@ -20,8 +20,8 @@ def is_renaming(n, value):
 def renaming_of(n, word):
     """The renaming that a word makes."""
     check_many(n, FINITE_POINTS)
-    check_word(n, word)
-    return {row: moved(row, word) for row in exceptional_rows(n)}
+    rows = map_of(n, word)
+    return {row: tuple(taken_by(row, rows)) for row in exceptional_rows(n)}
 
 
 def names_word(n, names):
@@ -137,8 +137,8 @@ def _are_names(n, value):
     keys, stand = list(value), list(value.values())
     if not all([_is_exceptional_of(n, row) for row in keys + stand]):
         return False
-    rows = list(exceptional_rows(n))
-    return sorted(keys) == rows and sorted(stand) == rows
+    # No key stands twice in a dict: so they are all rows if what stands for them is.
+    return sorted(stand) == list(exceptional_rows(n))
 
 
 def _check_names(n, names):

@@ -98,7 +98,8 @@ def end_of(row):
     """The end of the row: rows are led to one another just if they have one end."""
     _check_nine(row)
     end = _end(row)
-    if not are_short(end[1]) or not are_short(end[2:]):
+    # A rest behind the row is not longer than the row, or is a number of the given one.
+    if not are_short(end[1]):
         raise TooMany(MOST_DIGITS)
     return end
 

@@ -13,10 +13,11 @@ def turned_points(prime, points, i, j, k):
     _check_turn(prime, points, (i, j, k))
     _check_lines(prime, points, (i, j, k))
     three = (points[i], points[j], points[k])
+    units = {i: _UNITS[0], j: _UNITS[1], k: _UNITS[2]}
     found = []
     for at, point in enumerate(points):
-        if at in (i, j, k):
-            found.append(_UNITS[(i, j, k).index(at)])
+        if at in units:
+            found.append(units[at])
         else:
             x, y, z = _factors(prime, three, point)
             found.append(point_of(prime, (y * z, x * z, x * y)))

@@ -11,14 +11,18 @@ from timesthrough.count.parts import parts
 from timesthrough.count.steps import settled, walked
 from timesthrough.lots.apart import are_apart, further, kind_of, line_of
 from timesthrough.lots.names import pairs, partner, sixes, third, threes, threes_of
+from timesthrough.many.bounds import end_of_steps, row_below
 from timesthrough.mirrors.led import how_many, led, led_rows, parting
 from timesthrough.mirrors.roots import group_order, is_positive, is_root, roots, turned
 from timesthrough.nine.lattice import exceptional_of, lattice_of, lattice_rows, norm, unfolded
+from timesthrough.place.counts import clear_part, count_in, depends
+from timesthrough.place.places import Place
 from timesthrough.plane.forms import count_at
 from timesthrough.plane.points import are_on_conic, is_let
 from timesthrough.rows.exceptional import exceptional_rows, is_exceptional
 from timesthrough.rows.moves import map_of, moved
 from timesthrough.rows.rows import counting, cubic, genus, point_row, product, square, with_cubic
+from timesthrough.share.shares import free_share, least_degree, least_share
 
 
 class Examples(unittest.TestCase):
@@ -95,6 +99,30 @@ class Examples(unittest.TestCase):
         found = [is_change_row((2, 1, 1, 1)), is_change_row((5, 3, 3, 1, 1, 1, 1, 1, 1)), change_word((1, 1, 0, 0)),
                  moved((1, 0, 0, 0), change_word((2, 1, 1, 1)))]
         self.assertEqual(found, [True, False, None, (2, 1, 1, 1)])
+
+    def test_shares(self):
+        found = [least_share((1, 1, 1, 1, 1, 1)), free_share((1, 1, 1, 1, 1, 1)), least_share((2, 1, 1)),
+                 least_degree((1,) * 8, 17)]
+        self.assertEqual(found, [(12, 5), (5, 2), (2, 1), 48])
+
+    def test_places(self):
+        place = Place(101, ((1, 0, 0), (0, 1, 0), (0, 0, 1), (1, 1, 1), (1, 1, 0)))
+        found = [place.roots, len(place.staying), place.parts_of((1, 1, 1, 0, 0, 0)), str(place)]
+        told = (((0, 0, 0, 0, 0, -1), 1), ((1, 1, 1, 0, 0, 1), 1))
+        self.assertEqual(found, [((1, 0, 0, 1, 1, 1), (1, 1, 1, 0, 0, 1)), 9, told, "5 points over 101, kind a1 a1"])
+
+    def test_counts_at_places(self):
+        corners = Place(101, ((1, 0, 0), (0, 1, 0), (0, 0, 1), (0, 100, 1), (100, 0, 1), (100, 1, 0)))
+        twice = (4,) + (2,) * 6
+        found = [count_in(corners, (2,) + (1,) * 6), count_in(corners, twice), clear_part(corners, twice),
+                 depends(corners, twice)]
+        self.assertEqual(found, [0, 1, (0, 0, 0, 0, 0, 0, 0), True])
+
+    def test_bounds(self):
+        ten = (6, 2, 2, 2, 2, 2, 2, 2, 2, 1, 1)
+        found = [end_of_steps(ten), row_below(ten), end_of_steps((2, 2, 2, 2, 0, 0, 0, 0, 0, 0, 0)),
+                 row_below((4, 2, 2, 2, 2, 2, 0, 0, 0, 0, 0))]
+        self.assertEqual(found, [("at", (6, 2, 2, 2, 2, 2, 2, 2, 2, 1, 1)), 2, ("below",), 1])
 
 
 if __name__ == "__main__":

@@ -14,12 +14,13 @@ ROOT = os.path.join(os.path.dirname(os.path.dirname(os.path.abspath(__file__))),
 BUILTINS = set(dir(builtins))
 USED_BUILTINS = set(
     "len range enumerate zip min max sum abs sorted reversed int str bool list tuple dict set isinstance repr any all "
-    "divmod ValueError TypeError KeyError IndexError LookupError ArithmeticError OverflowError NotImplemented".split())
+    "divmod iter ValueError TypeError KeyError IndexError LookupError ArithmeticError OverflowError NotImplemented".split())
 METHODS = set(
     "append clear copy count endswith extend find get index insert isalnum isalpha isdigit islower isspace isupper items "
     "join keys lower lstrip partition pop remove replace reverse rfind rstrip setdefault split startswith strip update "
     "upper values".split())
-DOUBLE = {"__init__", "__eq__", "__str__", "__len__", "__bool__", "__add__", "__sub__", "__mul__", "__neg__"}
+DOUBLE = {"__init__", "__eq__", "__str__", "__len__", "__bool__", "__add__", "__sub__", "__mul__", "__neg__",
+          "__contains__", "__iter__"}
 BARRED_NAMES = set(
     "register mro elements open input law version_info with_traceback add_note attrgetter breakpoint builtins compile "
     "copyright credits delattr dir eval exec exit gc getattr globals hasattr help id importlib license locals "
@@ -246,17 +247,33 @@ class Language(unittest.TestCase):
                 "threes threes_of other_half sixes partner pairs",
             "timesthrough.change.changes": "is_change_row change_word change_map change_rows",
             "timesthrough.change.moved": "turned_points turned_form",
+            "timesthrough.share.shares": "least_share free_share least_degree least_free_degree share_paper "
+                "is_share_paper free_bar is_free_bar",
+            "timesthrough.share.rays": "rays stretch_rows stretch_counts are_free_together",
+            "timesthrough.place.places": "Place",
+            "timesthrough.place.counts": "is_clear clear_part steps_in is_steps_in count_in depends",
+            "timesthrough.many.bounds": "FEWEST MOST_STEPS end_of_steps row_below is_square_barred row_above bounds "
+                "is_led_to_point word_to_point",
         }
         for name, names in told.items():
             own = [node.name for node in self.modules[name].body if isinstance(node, (ast.FunctionDef, ast.ClassDef))]
             own += [node.targets[0].id for node in self.modules[name].body if isinstance(node, ast.Assign)]
             for asked in names.split():
                 self.assertIn(asked, own, name)
-        form = [node for node in self.modules["timesthrough.plane.forms"].body if isinstance(node, ast.ClassDef)][0]
-        methods = [node.name for node in form.body if isinstance(node, ast.FunctionDef)]
-        for asked in ("prime", "degree", "terms", "at", "times_at", "__add__", "__sub__", "__mul__", "__neg__",
-                      "__bool__", "__len__", "__eq__", "__str__"):
-            self.assertIn(asked, methods)
+
+    def test_each_method_stands_in_its_class(self):
+        told = {
+            "timesthrough.plane.forms Form": "prime degree terms at times_at __add__ __sub__ __mul__ __neg__ __bool__ "
+                "__len__ __eq__ __str__",
+            "timesthrough.place.places Place": "prime points roots bends staying curves kind parts_of __contains__ __len__ "
+                "__iter__ __eq__ __str__",
+        }
+        for name, asked in told.items():
+            module, kind = name.split()
+            found = [node for node in self.modules[module].body if isinstance(node, ast.ClassDef) and node.name == kind]
+            methods = [node.name for node in found[0].body if isinstance(node, ast.FunctionDef)]
+            for method in ["__init__"] + asked.split():
+                self.assertIn(method, methods)
 
 
 if __name__ == "__main__":

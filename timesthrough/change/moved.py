@@ -3,7 +3,7 @@
 from timesthrough.base.values import is_from_to
 from timesthrough.errors import InvalidForm, InvalidNumber, Refused, TooMany
 from timesthrough.plane.forms import MAX_DEGREE, Form
-from timesthrough.plane.points import check_points, point_of
+from timesthrough.plane.points import check_points, point_of, spread
 
 _UNITS = ((1, 0, 0), (0, 1, 0), (0, 0, 1))
 
@@ -54,7 +54,7 @@ def _check_lines(prime, points, indices):
     """Raises Refused if the three points are in a line, or another one is with two of them."""
     i, j, k = indices
     three = (points[i], points[j], points[k])
-    if _spread(prime, points[i], points[j], points[k]) == 0:
+    if spread(prime, points[i], points[j], points[k]) == 0:
         raise Refused(("line", i, j, k))
     for at, point in enumerate(points):
         if at not in indices and 0 in _factors(prime, three, point):
@@ -64,13 +64,7 @@ def _check_lines(prime, points, indices):
 def _factors(prime, three, point):
     """How many times each of three points is in a point, but for a common factor."""
     one, two, last = three
-    return (_spread(prime, point, two, last), _spread(prime, one, point, last), _spread(prime, one, two, point))
-
-
-def _spread(prime, one, two, last):
-    """The determinant of three points, modulo the prime: 0 if they are in a line."""
-    (a, b, c), (d, e, f), (g, h, i) = one, two, last
-    return (a * (e * i - f * h) - b * (d * i - f * g) + c * (d * h - e * g)) % prime
+    return (spread(prime, point, two, last), spread(prime, one, point, last), spread(prime, one, two, point))
 
 
 def _placed(prime, three, form):

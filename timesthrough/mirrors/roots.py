@@ -1,16 +1,14 @@
 """Roots, and least words of the moves about simple ones."""
 
-from timesthrough.base.values import is_from_to, orders
+from timesthrough.base.values import is_from_to
 from timesthrough.count.steps import settle, shadow_row
 from timesthrough.errors import InvalidRow, InvalidWord
 from timesthrough.rows.moves import check_word, do_move, moved_far, undone
 from timesthrough.rows.rows import FINITE_POINTS, check_many, check_row, is_row, plus_times, product_of
 from timesthrough.rows.rows import product_with_cubic, short_row
+from timesthrough.rows.tables import ROOTS
 
 MAX_LETTERS = 2000
-
-# The degrees of roots above 0, and their numbers other than 0.
-_PATTERNS = ((1, (1, 1, 1)), (2, (1, 1, 1, 1, 1, 1)), (3, (2, 1, 1, 1, 1, 1, 1, 1)))
 
 # How many maps words have, for 3 to 8 points.
 _ORDERS = (12, 120, 1920, 51840, 2903040, 696729600)
@@ -32,13 +30,10 @@ def is_positive(root):
 def roots(n):
     """All roots of n points, ascending."""
     check_many(n, FINITE_POINTS)
-    found = [(0,) + order for order in orders((-1, 1) + (0,) * (n - 2))]
-    for degree, numbers in _PATTERNS:
-        if len(numbers) <= n:
-            for order in orders(numbers + (0,) * (n - len(numbers))):
-                found.append((degree,) + order)
-                found.append((-degree,) + tuple([-number for number in order]))
-    return tuple(sorted(found))
+    if n == FINITE_POINTS:
+        return ROOTS
+    behind = (0,) * (FINITE_POINTS - n)
+    return tuple([root[:n + 1] for root in ROOTS if root[n + 1:] == behind])
 
 
 def turned(row, root):

@@ -50,7 +50,7 @@ class Form:
         """How many times the form passes through a point, None for the form 0."""
         check_point(self._prime, point)
         for order in range(self._degree + 1):
-            table = _vanishing(self._prime, self._degree, point, order)
+            table = vanishing(self._prime, self._degree, point, order)
             if any([self._applied(row) != 0 for row in table]):
                 return order
         return None
@@ -128,6 +128,31 @@ def count_at(prime, points, row):
     return len(columns) - len(reduced_rows(prime, _table(prime, points, row), len(columns)))
 
 
+def vanishing(prime, degree, point, order):
+    """For each term of a degree at the point, how it comes of the coefficients; nothing is checked."""
+    # The last entry that is not 0 is 1: its unknown is set to 1, the other two are moved.
+    chosen = last_filled(point)
+    one, other = [at for at in range(3) if at != chosen]
+    left = _powers(prime, point[one], degree, order + 1)
+    right = _powers(prime, point[other], degree, order + 1)
+    columns = _columns(degree)
+    table = []
+    for first in range(order + 1):
+        second = order - first
+        table.append(tuple([left[column[one]][first] * right[column[other]][second] % prime for column in columns]))
+    return table
+
+
+def _powers(prime, entry, degree, many):
+    """For each power up to the degree of (entry and unknown) its lowest rests, so many."""
+    powers = [[1] + [0] * (many - 1)]
+    for _ in range(degree):
+        last = powers[-1]
+        shifted = [0] + last[:-1]
+        powers.append([(entry * rest + lower) % prime for rest, lower in zip(last, shifted)])
+    return powers
+
+
 def _check_asked(prime, points, row):
     check_points(prime, points)
     check_row(row)
@@ -166,33 +191,8 @@ def _table(prime, points, row):
     found = []
     for point, number in zip(points, row[1:]):
         for order in range(number):
-            found.extend(_vanishing(prime, degree, point, order))
+            found.extend(vanishing(prime, degree, point, order))
     return found if len(found) > 0 else [(0,) * len(_columns(degree))]
-
-
-def _vanishing(prime, degree, point, order):
-    """For each term of a degree at the point, how it comes of the coefficients."""
-    # The last entry that is not 0 is 1: its unknown is set to 1, the other two are moved.
-    chosen = last_filled(point)
-    one, other = [at for at in range(3) if at != chosen]
-    left = _powers(prime, point[one], degree, order + 1)
-    right = _powers(prime, point[other], degree, order + 1)
-    columns = _columns(degree)
-    table = []
-    for first in range(order + 1):
-        second = order - first
-        table.append(tuple([left[column[one]][first] * right[column[other]][second] % prime for column in columns]))
-    return table
-
-
-def _powers(prime, entry, degree, many):
-    """For each power up to the degree of (entry and unknown) its lowest rests, so many."""
-    powers = [[1] + [0] * (many - 1)]
-    for _ in range(degree):
-        last = powers[-1]
-        shifted = [0] + last[:-1]
-        powers.append([(entry * rest + lower) % prime for rest, lower in zip(last, shifted)])
-    return powers
 
 
 def _sum_of_terms(prime, one, other):

@@ -90,6 +90,12 @@ def check_points(prime, points):
         raise InvalidPoints("no points over the prime")
 
 
+def spread(prime, one, two, last):
+    """The determinant of three points, modulo the prime: 0 if they are in a line; nothing is checked."""
+    (a, b, c), (d, e, f), (g, h, i) = one, two, last
+    return (a * (e * i - f * h) - b * (d * i - f * g) + c * (d * h - e * g)) % prime
+
+
 def last_filled(point):
     """The index of the last entry of a point that is not 0; this entry is 1."""
     return max([at for at in range(3) if point[at] != 0])

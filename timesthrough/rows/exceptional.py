@@ -1,21 +1,11 @@
 """Exceptional rows: those to which moves lead the rows of points."""
 
-from timesthrough.base.values import are_short, is_integer, orders
+from timesthrough.base.values import are_short, is_integer
 from timesthrough.count.steps import settle
 from timesthrough.errors import InvalidNumber, InvalidOperation, TooMany
 from timesthrough.rows.moves import undone
 from timesthrough.rows.rows import FINITE_POINTS, MOST_DIGITS, check_few, check_many, product_of, product_with_cubic
-
-# The degrees of exceptional rows to eight points, and their numbers other than 0.
-_PATTERNS = (
-    (0, (-1,)),
-    (1, (1, 1)),
-    (2, (1, 1, 1, 1, 1)),
-    (3, (2, 1, 1, 1, 1, 1, 1)),
-    (4, (2, 2, 2, 1, 1, 1, 1, 1)),
-    (5, (2, 2, 2, 2, 2, 2, 1, 1)),
-    (6, (3, 2, 2, 2, 2, 2, 2, 2)),
-)
+from timesthrough.rows.tables import EXCEPTIONAL
 
 
 def is_exceptional(row):
@@ -27,12 +17,10 @@ def is_exceptional(row):
 def exceptional_rows(n):
     """All exceptional rows of 3 to 8 points, ascending."""
     check_many(n, FINITE_POINTS)
-    found = []
-    for degree, numbers in _PATTERNS:
-        if len(numbers) <= n:
-            filled = numbers + (0,) * (n - len(numbers))
-            found.extend([(degree,) + order for order in orders(filled)])
-    return tuple(sorted(found))
+    if n == FINITE_POINTS:
+        return EXCEPTIONAL
+    behind = (0,) * (FINITE_POINTS - n)
+    return tuple([row[:n + 1] for row in EXCEPTIONAL if row[n + 1:] == behind])
 
 
 def word_to(row):

@@ -145,7 +145,7 @@ def plus_times(one, times, other):
 
 def product_of(one, other):
     """The product of two rows, or of what is like rows but has longer integers."""
-    return one[0] * other[0] - sum([left * right for left, right in zip(one[1:], other[1:])])
+    return 2 * one[0] * other[0] - sum([left * right for left, right in zip(one, other)])
 
 
 def product_with_cubic(row):

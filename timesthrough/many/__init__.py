@@ -1,0 +1,1 @@
+"""Rows of ten points and more."""

@@ -1,0 +1,1 @@
+"""Shares of weights, and sums of rows by rays."""

@@ -9,6 +9,8 @@ from timesthrough.count.counts import count
 from timesthrough.count.free import has_base_point, is_free, met, pencil_of
 from timesthrough.count.parts import parts
 from timesthrough.count.steps import settled, walked
+from timesthrough.house.hands import Hand
+from timesthrough.house.shelf import Shelf
 from timesthrough.lots.apart import are_apart, further, kind_of, line_of
 from timesthrough.lots.names import pairs, partner, sixes, third, threes, threes_of
 from timesthrough.many.bounds import end_of_steps, row_below
@@ -23,6 +25,7 @@ from timesthrough.rows.exceptional import exceptional_rows, is_exceptional
 from timesthrough.rows.moves import map_of, moved
 from timesthrough.rows.rows import counting, cubic, genus, point_row, product, square, with_cubic
 from timesthrough.share.shares import free_share, least_degree, least_share
+from timesthrough.text.texts import read_row, write_points, write_row, write_value, write_word
 
 
 class Examples(unittest.TestCase):
@@ -123,6 +126,25 @@ class Examples(unittest.TestCase):
         found = [end_of_steps(ten), row_below(ten), end_of_steps((2, 2, 2, 2, 0, 0, 0, 0, 0, 0, 0)),
                  row_below((4, 2, 2, 2, 2, 2, 0, 0, 0, 0, 0))]
         self.assertEqual(found, [("at", (6, 2, 2, 2, 2, 2, 2, 2, 2, 1, 1)), 2, ("below",), 1])
+
+    def test_shelf(self):
+        shelf = Shelf(5, {"conic": (2, 1, 1, 1, 1, 1), "twice": (4, 2, 2, 2, 2, 2)})
+        found = [shelf.pin(("clear", "twice")), shelf.claims[0][1], shelf.edit((("less", 4),)), shelf.standing(1)[:2],
+                 shelf.fallen, str(shelf)]
+        self.assertEqual(found, [1, False, 2, ("fallen", True), (1,), "shelf of 2 rows at 4 points, edition 2"])
+
+    def test_hands(self):
+        shelf = Shelf(5, {"conic": (2, 1, 1, 1, 1, 1)})
+        one, other = Hand(shelf), Hand(shelf)
+        found = [one.ask(("some", "conic"))[0], one.change(("put", "line", (1, 1, 1, 0, 0, 0))),
+                 other.change(("put", "conic", (2, 2, 2, 1, 0, 0))), other.commit(), str(one)]
+        self.assertEqual(found, [True, None, None, 2, "hand on 1, 2 calls"])
+
+    def test_texts(self):
+        found = [write_row(FOUR), write_word((("swap", 0, 3), ("turn", 0, 1, 4))), write_points(101, CIRCLE[:3]),
+                 read_row(" 2 1 1  -1"), write_value(("turn", 0, (None, -3)))]
+        self.assertEqual(found, ["4 2 2 2 2 2 0", "0-3 0-1-4", "101 / 0,0,1 1,1,1 2,4,1", (2, 1, 1, -1),
+                                 "('turn 0 (none -3))"])
 
 
 if __name__ == "__main__":

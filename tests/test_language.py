@@ -103,8 +103,9 @@ class Language(unittest.TestCase):
                 good = isinstance(node, (ast.FunctionDef, ast.ClassDef, ast.ImportFrom)) or at == 0 and is_docstring(node)
                 if isinstance(node, ast.Assign):
                     good = len(node.targets) == 1 and isinstance(node.targets[0], ast.Name)
-                    good = good and not any(isinstance(part, (ast.Call, ast.Name, ast.List, ast.Dict))
-                                            for part in ast.walk(node.value))
+                    parts = [part for part in ast.walk(node.value) if part is not node.value]
+                    good = good and not isinstance(node.value, (ast.Call, ast.Name, ast.List))
+                    good = good and not any(isinstance(part, (ast.Call, ast.Name, ast.List, ast.Dict)) for part in parts)
                 self.assertTrue(good, f"{path}:{node.lineno}")
             names = bound(tree)
             self.assertEqual(len(names), len(set(names)), path)
@@ -202,7 +203,11 @@ class Language(unittest.TestCase):
             self.assertTrue(isinstance(node.exc, ast.Call) and node.exc.func.id in own and node.cause is None, spot)
             self.assertEqual((len(node.exc.args), len(node.exc.keywords)), (1, 0), spot)
         for node, spot in self.each(ast.ExceptHandler):
-            self.assertTrue(isinstance(node.type, ast.Name) and node.type.id in own and node.name is None, spot)
+            kinds = node.type.elts if isinstance(node.type, ast.Tuple) else [node.type]
+            self.assertTrue(all(isinstance(kind, ast.Name) and kind.id in own for kind in kinds), spot)
+            if node.name is not None:
+                read = [part for part in ast.walk(node) if isinstance(part, ast.Name) and part.id == node.name]
+                self.assertTrue(all(isinstance(part.parent, ast.Attribute) for part in read), spot)
 
     def test_iterated_at_once(self):
         iterating = {"list", "tuple", "dict", "sorted", "sum", "any", "all", "enumerate", "zip", "min", "max"}
@@ -252,6 +257,13 @@ class Language(unittest.TestCase):
             "timesthrough.share.rays": "rays stretch_rows stretch_counts are_free_together",
             "timesthrough.place.places": "Place",
             "timesthrough.place.counts": "is_clear clear_part steps_in is_steps_in count_in depends",
+            "timesthrough.house.shelf": "MAX_NAMED MAX_CLAIMS MAX_EDITIONS MAX_EDITS is_question decide is_paper is_edit "
+                "Shelf",
+            "timesthrough.house.hands": "MAX_CALLS Hand",
+            "timesthrough.house.log": "log_text read_log",
+            "timesthrough.text.texts": "write_row write_word write_points read_row read_word read_points write_value "
+                "read_value",
+            "timesthrough.text.shell": "MAX_LINE Shell",
             "timesthrough.many.bounds": "FEWEST MOST_STEPS end_of_steps row_below is_square_barred row_above bounds "
                 "is_led_to_point word_to_point",
         }
@@ -267,6 +279,11 @@ class Language(unittest.TestCase):
                 "__len__ __eq__ __str__",
             "timesthrough.place.places Place": "prime points roots bends staying curves kind parts_of __contains__ __len__ "
                 "__iter__ __eq__ __str__",
+            "timesthrough.house.shelf Shelf": "edit pin rows_at points_at standing editions claims fallen history twin "
+                "__contains__ __len__ __eq__ __str__",
+            "timesthrough.house.hands Hand": "base calls rows_now points_now change ask commit renew __len__ __eq__ "
+                "__str__",
+            "timesthrough.text.shell Shell": "said say run __str__",
         }
         for name, asked in told.items():
             module, kind = name.split()

@@ -3,6 +3,9 @@
 # The least integer of more than 200 digits.
 _TOO_LONG = (10 ** 50) ** 4
 
+# A name has at most so many letters and digits.
+_MOST_LETTERS = 8
+
 
 def is_short(number):
     """Whether an integer has at most 200 digits."""
@@ -63,3 +66,10 @@ def greatest_divisor(numbers):
         while number != 0:
             found, number = number, found % number
     return abs(found)
+
+
+def is_name(value):
+    """Whether the value is a string of one to eight small letters and digits, the first one a letter."""
+    if not isinstance(value, str) or not 1 <= len(value) <= _MOST_LETTERS:
+        return False
+    return "a" <= value[0] <= "z" and all(["a" <= sign <= "z" or "0" <= sign <= "9" for sign in value])

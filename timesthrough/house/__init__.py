@@ -1,0 +1,1 @@
+"""Shelves of named rows, hands that change them, and logs."""

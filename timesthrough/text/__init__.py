@@ -1,0 +1,1 @@
+"""Texts of rows, words, points and values, and a shell."""

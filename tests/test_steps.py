@@ -1,12 +1,15 @@
 import random
 import unittest
+import unittest.mock
 
 from tests.kit import (FIVE, FOUR, GREATEST, LINES, SEXTIC, caught, climbed, refuses, small_rows, too_many,
                        wrong_values)
 from tests.test_moves import NO_MOVES, by_hand, random_word
 from tests.test_rows import NO_ROWS, random_row
 from timesthrough.count import steps as module
-from timesthrough.count.counts import count, has_curves
+from timesthrough.count.counts import bar, count, has_curves, is_bar
+from timesthrough.count.free import free_word, has_base_point, is_free, is_free_word, is_met, is_one_curve, met, pencil_of
+from timesthrough.count.parts import is_parts, met_below, parts
 from timesthrough.count.steps import is_settled, is_standard, is_steps, settled, settling, steps, walked
 from timesthrough.errors import InvalidOperation, InvalidRow, Refused
 from timesthrough.rows.moves import is_word, moved, undone
@@ -158,6 +161,43 @@ class Settled(unittest.TestCase):
         too_many(self, 2000, settled, (0, GREATEST, -GREATEST, -1, 0, 0, 0, 0, 0, 0))
         self.assertEqual(settled((10 ** 199,) + (0,) * 9), (10 ** 199,) + (0,) * 9)
         self.assertTrue(is_settled(settled(great)))
+
+    def test_clearly_far(self):
+        told = [(3000, 2000) + (1000,) * 7 + (-1,), (3000, 2000) + (1000,) * 6 + (999, 0), (0, GREATEST, -GREATEST) + (-1,) * 2 + (0,) * 5,
+                (10 ** 199 + 1, -10 ** 199) + (5 * 10 ** 198,) * 8]
+        for row in told:
+            self.assertGreater(with_cubic(row), 0)
+            # Not a single move is made to tell that these are too far.
+            with unittest.mock.patch.object(module, "do_move", side_effect=AssertionError):
+                for call in (settled, settling, steps, count, has_curves, bar, parts, met_below, is_free, met, free_word, is_one_curve,
+                             pencil_of, has_base_point):
+                    too_many(self, 2000, call, row)
+                too_many(self, 2000, is_parts, row, None)
+                too_many(self, 2000, is_free_word, row, ())
+                too_many(self, 2000, is_met, row, cubic(9))
+                self.assertIs(is_bar(multiplied(-1, point_row(9, 0)), row), False)
+
+    def test_far_as_walks_tell(self):
+        chance = random.Random(18)
+        verdicts = []
+        for _ in range(120):
+            size, meeting = chance.choice((150, 600, 900, 1200, 2000)), chance.randint(1, 4)
+            numbers = [chance.randint(-size, size) for _ in range(9)]
+            if chance.random() < 0.5:
+                numbers = numbers[:2] + [numbers[2] + chance.randint(-2, 2) for _ in range(7)]
+            numbers[chance.randint(0, 8)] += -(sum(numbers) + meeting) % 3
+            row = ((sum(numbers) + meeting) // 3,) + tuple(numbers)
+            degree, falling, many = row[0], sorted(numbers, reverse=True), 0
+            while degree < sum(falling[:3]) and many <= 1900:
+                change = degree - sum(falling[:3])
+                degree, falling = degree + change, sorted([number + change for number in falling[:3]] + falling[3:], reverse=True)
+                many += 1
+            verdicts.append(many > 1900)
+            if many > 1900:
+                too_many(self, 2000, settled, row)
+            else:
+                self.assertEqual(settled(row), (degree,) + tuple(falling))
+        self.assertTrue(20 < sum(verdicts) < 100)
 
     def test_long_settled_rows(self):
         row = (-GREATEST,) + (GREATEST,) * 8

@@ -10,6 +10,12 @@ MAX_STEPS = 2000
 # A row of nine points whose falling walk has more turns is too far.
 MOST_TURNS = 1900
 
+# A turn, and putting the numbers in order behind it, are at most so many exchanges and turns.
+_MOST_TOGETHER = 19
+
+# Rows whose numbers differ by at most so many times their product with the cubic are not clearly too far.
+_NEAR = 150
+
 
 def is_standard(row):
     """Whether no number is below 0, and no three are together above the degree."""
@@ -103,6 +109,8 @@ def settle(row):
 
     The entries may be of any length. A row of nine points has to meet the cubic above 0 times.
     """
+    if len(row) == FEW_POINTS + 1 and _is_clearly_far(row):
+        raise TooMany(MAX_STEPS)
     # By the shadow the walk chooses among points with equal numbers: so it is that of a row
     # just beside the given one, which has no equal numbers on its way. A standard row that
     # is led back by its word has no longer walk than this.
@@ -150,6 +158,25 @@ def finish(end):
         _do_step(entries, step)
         made.append(step)
     return made, entries
+
+
+def _is_clearly_far(row):
+    """Whether one look tells that a row of nine points is too far."""
+    many = product_with_cubic(row)
+    numbers = sorted(row[1:], reverse=True)
+    if numbers[0] - numbers[-1] <= _NEAR * many:
+        return False
+    # The roots of nine points are these, their opposites, and both with multiples of the cubic
+    # added. Each exchange and each turn of the walk lessens by one how many of the positive
+    # ones the row meets below 0.
+    meetings = []
+    for i, first in enumerate(numbers):
+        for j in range(i + 1, FEW_POINTS):
+            meetings.append(first - numbers[j])
+            left = row[0] - first - numbers[j]
+            meetings.extend([left - number for number in numbers[j + 1:]])
+    below = sum([(meeting - 1) // many if meeting > 0 else -(meeting // many) for meeting in meetings])
+    return below > _MOST_TOGETHER * MOST_TURNS
 
 
 def _settled_and_word(row):

@@ -1,3 +1,4 @@
+import itertools
 import random
 import unittest
 
@@ -13,7 +14,7 @@ from timesthrough.mirrors.led import (does_lead, how_many, is_through_keepers, k
                                       parting, through_keepers)
 from timesthrough.mirrors.roots import group_order, root_word, roots, turned
 from timesthrough.rows.moves import is_word, moved
-from timesthrough.rows.rows import cubic, line_row, multiplied, point_row, product, square, with_cubic
+from timesthrough.rows.rows import added, cubic, line_row, multiplied, point_row, product, square, with_cubic
 
 LINE, OTHER = (1, 0, 0, 0, 0, 0, 0, 0, 0), (3, 1, 1, 1, 1, 1, 1, 1, -1)
 
@@ -31,6 +32,26 @@ def judged(row, word, value):
         if there != by_hand(unit, word):
             return False
     return True
+
+
+def order_by_keepers(row):
+    """How many maps keep the row, by all keepers alone.
+
+    They make of one keeper just those to which chains of meetings lead from it; and those maps
+    that keep it, too, are of the keepers that it meets 0 times.
+    """
+    left, order = list(keepers(row)), 1
+    while left:
+        near = [root for root in left if product(root, left[0]) != 0]
+        order *= len([root for root in left if any(product(root, other) != 0 for other in near)])
+        left = [root for root in left if product(root, left[0]) == 0]
+    return order
+
+
+def plain_rows(n):
+    """For each letter a settled row that meets its root once, and the roots of the others 0 times."""
+    zeros = (0,) * (n - 2)
+    return [(1, 1, 0) + zeros, (2, 1, 1) + zeros] + [(3,) + (1,) * many + (0,) * (n - many) for many in range(3, n)] + [line_row(n)]
 
 
 def rows_with_keepers(chance, many):
@@ -155,6 +176,23 @@ class Keepers(unittest.TestCase):
         self.assertEqual([how_many(point_row(n, 0)) for n in ORDERS], [6, 10, 16, 27, 56, 240])
         self.assertEqual([how_many((1, 1) + (0,) * (n - 1)) for n in ORDERS], [3, 5, 10, 27, 126, 2160])
         self.assertEqual([how_many(line_row(n)) for n in ORDERS], [2, 5, 16, 72, 576, 17280])
+
+    def test_orders_by_keepers(self):
+        chance = random.Random(68)
+        seen = set()
+        for n in range(3, 9):
+            for which in itertools.product((0, 1), repeat=n):
+                if n > 6 and chance.random() > (0.25 if n == 7 else 0.15):
+                    continue
+                row = (0,) * (n + 1)
+                for many, plain in zip(which, plain_rows(n)):
+                    row = added(row, multiplied(many * chance.randint(1, 3), plain))
+                row = moved(added(row, multiplied(chance.randint(-2, 2), cubic(n))), random_word(chance, n, 9))
+                order = order_by_keepers(row)
+                self.assertEqual((keeper_order(row), how_many(row)), (order, group_order(n) // order))
+                seen.add(order)
+        # 192 maps hang together around a dot with three neighbours, 1920 around one with a longer row.
+        self.assertTrue(len(seen) > 20 and {1, 2, 4, 6, 192, 1920, 51840} <= seen, seen)
 
     def test_led_rows(self):
         for row in (line_row(7), point_row(8, 2), (1, 1, 0, 0, 0, 0, 0), (15, 5, 4, 3, 2, 1), (2, 1, 0, 0, 0, 0, 0)):

@@ -2,7 +2,8 @@
 
 from timesthrough.count.steps import settle
 from timesthrough.errors import Refused, TooMany
-from timesthrough.mirrors.roots import group_order, is_root, is_up, move_of, roots, turned_far
+from timesthrough.mirrors.diagrams import kinds_of
+from timesthrough.mirrors.roots import group_order, is_root, is_up, move_of, root_of, roots, turned_far
 from timesthrough.rows.moves import check_word, do_move, is_word, moved_far, undone, unit_rows
 from timesthrough.rows.rows import FINITE_POINTS, check_few, check_rows, plus_times, product_of, short_row
 
@@ -40,13 +41,15 @@ def keepers(row):
 
 def keeper_order(row):
     """How many maps the words have that keep the row."""
-    left = keepers(row)
+    check_few(row, FINITE_POINTS)
+    many = len(row) - 1
+    _, end = settle(row)
+    # As many maps keep the settled row; it meets no root of a letter below 0, so all of them
+    # are of words with those letters alone whose roots it meets 0 times.
+    plain = [root_of(many, letter) for letter in range(many)]
     order = 1
-    while len(left) > 0:
-        # The words that keep the row make of this keeper just those that hang together
-        # with it; and those words that keep it, too, have the keepers that it meets 0 times.
-        order = order * _hanging_together(left, left[0])
-        left = [root for root in left if product_of(root, left[0]) == 0]
+    for letter, size in kinds_of([root for root in plain if product_of(root, end) == 0]):
+        order = order * _order_of_kind(letter, size)
     return order
 
 
@@ -121,11 +124,14 @@ def _check_kept(row, word):
         raise Refused(("moved",))
 
 
-def _hanging_together(some, first):
-    """How many of the roots a chain of meetings leads to from the first one."""
-    # A root of the same piece that does not meet the first one meets one that does.
-    near = [root for root in some if product_of(root, first) != 0]
-    return len([root for root in some if any([product_of(root, other) != 0 for other in near])])
+def _order_of_kind(letter, size):
+    """How many maps the turns about roots have that hang together in this way."""
+    if letter == "e":
+        return group_order(size)
+    order = 1 if letter == "d" else size + 1
+    for factor in range(2, size + 1):
+        order = order * (2 * factor if letter == "d" else factor)
+    return order
 
 
 def _turned_one(images):

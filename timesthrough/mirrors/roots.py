@@ -96,7 +96,7 @@ def passed(n, simple):
     """The roots that the simple word passes, in order."""
     check_many(n, FINITE_POINTS)
     _check_simple(n, simple)
-    plain = [_root_of(n, letter) for letter in range(n)]
+    plain = [root_of(n, letter) for letter in range(n)]
     # What the letters so far, the last one first, make of the root of each letter.
     images = list(plain)
     found = []
@@ -131,6 +131,13 @@ def move_of(n, letter):
     return ("turn", 0, 1, 2) if letter == n - 1 else ("swap", letter, letter + 1)
 
 
+def root_of(n, letter):
+    """The root of a letter."""
+    if letter == n - 1:
+        return (1, 1, 1, 1) + (0,) * (n - 3)
+    return (0,) * (letter + 1) + (-1, 1) + (0,) * (n - letter - 2)
+
+
 def turned_far(row, root):
     """The row turned about the root, as a tuple with entries of any length; nothing is checked."""
     return plus_times(row, product_of(row, root), root)
@@ -150,12 +157,6 @@ def _check_simple(n, simple):
     good = isinstance(simple, tuple) and len(simple) <= MAX_LETTERS
     if not good or not all([is_from_to(letter, 0, n - 1) for letter in simple]):
         raise InvalidWord("no simple word")
-
-
-def _root_of(n, letter):
-    if letter == n - 1:
-        return (1, 1, 1, 1) + (0,) * (n - 3)
-    return (0,) * (letter + 1) + (-1, 1) + (0,) * (n - letter - 2)
 
 
 def _falling_letter(entries):

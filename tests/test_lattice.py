@@ -84,6 +84,9 @@ class Lattice(unittest.TestCase):
         self.assertEqual(list(four), sorted(set(four)))
         self.assertTrue(all(is_lattice_row(u) and norm(u) == 4 for u in four))
         self.assertEqual(set(four), orbit(added((0, 1, -1, 0, 0, 0, 0, 0, 0), (0, 0, 0, 1, -1, 0, 0, 0, 0))))
+        # Each is a sum of two roots that meet 0 times, and each such sum is one of them.
+        self.assertEqual(set(four), {added(one, other) for one in roots(8) for other in roots(8) if product(one, other) == 0})
+        self.assertEqual(len(four), 2160)
 
     def test_unfolded(self):
         chance = random.Random(73)

@@ -32,12 +32,9 @@ def lattice_rows(number):
         raise InvalidNumber(number)
     if number == 0:
         return (_NOUGHT,)
-    turning = roots(FINITE_POINTS)
     if number == 2:
-        return turning
-    # Each row with the norm 4 is the sum of two roots that meet 0 times.
-    sums = [plus_times(one, 1, other) for one in turning for other in turning if product_of(one, other) == 0]
-    return tuple(sorted(list({u: True for u in sums})))
+        return roots(FINITE_POINTS)
+    return _rows_with_norm_four()
 
 
 def unfolded(row):
@@ -162,6 +159,24 @@ def _word_of_shift(w):
     # What leads the shadow row back, behind the shift the other way, is the shift.
     opposite = [-entry for entry in w]
     return settle(_shifted(shadow_row(FEW_POINTS), opposite))[0]
+
+
+def _rows_with_norm_four():
+    """All lattice rows with the norm 4, ascending, each put together from two halves."""
+    # The sum of the squares of the eight numbers is at least an eighth of the square of their
+    # sum, which is 3 times the degree: so the degree is from -5 to 5. For the seven numbers
+    # beside one the like holds with a seventh: so that one is from -2 to 2.
+    halves = [(i, j, k, m) for i in range(-2, 3) for j in range(-2, 3) for k in range(-2, 3) for m in range(-2, 3)]
+    told = [(half, sum(half), sum([number * number for number in half])) for half in halves]
+    alike = {}
+    for half, total, squares in told:
+        alike.setdefault((total, squares), []).append(half)
+    found = []
+    for degree in range(-5, 6):
+        for half, total, squares in told:
+            others = alike.get((3 * degree - total, degree * degree + 4 - squares), ())
+            found.extend([(degree,) + half + other for other in others])
+    return tuple(found)
 
 
 def _end(row):

@@ -129,6 +129,18 @@ class Renamings(unittest.TestCase):
             self.assertEqual((names_word(n, names), is_renaming(n, names)), (None, False))
             self.assertIs(is_names_bar(n, names, names_bar(n, names)), True)
 
+    def test_bars_by_all_pairs(self):
+        chance = random.Random(104)
+        for n, many in ((3, 60), (4, 60), (5, 40), (6, 30), (7, 8), (8, 3)):
+            for _ in range(many):
+                names = renaming_of(n, random_word(chance, n, 10))
+                for _ in range(chance.randint(0, 2)):
+                    names = exchanged(names, *chance.sample(ROWS[n][chance.choice((0, n, -4)):], 2))
+                bad = [pair for pair in combinations(ROWS[n], 2) if product(*pair) != product(names[pair[0]], names[pair[1]])]
+                self.assertEqual(names_bar(n, names), bad[0] if bad else None)
+                self.assertIs(is_renaming(n, names), not bad)
+                self.assertIs(names_word(n, names) is None, bool(bad))
+
     def test_is_names_bar(self):
         chance = random.Random(103)
         seen = {True: 0, False: 0}

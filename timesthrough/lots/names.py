@@ -134,11 +134,22 @@ def _are_names(n, value):
     """Whether the value is a dict from all exceptional rows to all of them."""
     if not isinstance(value, dict):
         return False
-    keys, stand = list(value), list(value.values())
-    if not all([_is_exceptional_of(n, row) for row in keys + stand]):
+    rows = list(exceptional_rows(n))
+    return _are_just(list(value), rows) and _are_just(list(value.values()), rows)
+
+
+def _are_just(values, rows):
+    """Whether the values are these rows, in any order; the rows ascend."""
+    if len(values) != len(rows):
         return False
-    # No key stands twice in a dict: so they are all rows if what stands for them is.
-    return sorted(stand) == list(exceptional_rows(n))
+    # Where all entries are integers, and none is True, equal tuples are the same rows.
+    for value in values:
+        if not isinstance(value, tuple) or len(value) != len(rows[0]):
+            return False
+        for entry in value:
+            if not isinstance(entry, int) or isinstance(entry, bool):
+                return False
+    return sorted(values) == rows
 
 
 def _check_names(n, names):
@@ -150,10 +161,13 @@ def _check_names(n, names):
 def _bar(n, names):
     """The first pair of rows that meet otherwise than those that stand for them, or None."""
     rows = exceptional_rows(n)
-    for at, one in enumerate(rows):
-        for other in rows[at + 1:]:
-            if product_of(one, other) != product_of(names[one], names[other]):
-                return (one, other)
+    stand = [names[row] for row in rows]
+    # The rows of the points come first. A row is told by what they meet it: so if all meet
+    # the others as they should, the names are those that the lot standing for them makes.
+    for at in range(n):
+        for where in range(at + 1, len(rows)):
+            if product_of(stand[at], stand[where]) != rows[where][at + 1]:
+                return (rows[at], rows[where])
     return None
 
 

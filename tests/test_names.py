@@ -212,6 +212,8 @@ class Threes(unittest.TestCase):
         found = sixes()
         self.assertEqual((len(found), found), (36, tuple(sorted(found))))
         self.assertEqual(sorted(six for pair in found for six in pair), all_sixes)
+        by_looking = [(six, tuple(row for row in ROWS[6] if [product(row, other) for other in six].count(1) == 5)) for six in all_sixes]
+        self.assertEqual(found, tuple(pair for pair in by_looking if pair[0] < pair[1]))
         for one, other in found:
             self.assertTrue(one < other)
             self.assertEqual((other_half(one), other_half(other)), (other, one))

@@ -2,13 +2,15 @@
 
 from timesthrough.count.steps import settle, shadow_row
 from timesthrough.errors import InvalidLot, InvalidName, InvalidNumber, InvalidRow, Refused
-from timesthrough.lots.apart import are_apart, line_with, whole_lots
+from timesthrough.lots.apart import are_apart, line_with
+from timesthrough.mirrors.roots import is_up, roots
 from timesthrough.rows.exceptional import exceptional_rows, is_exceptional
 from timesthrough.rows.moves import map_of, taken_by, undone
-from timesthrough.rows.rows import FINITE_POINTS, check_many, cubic, is_row, plus_times, point_row, product_of
+from timesthrough.rows.rows import FINITE_POINTS, check_many, is_row, point_row, product_of
 
 # Threes and sixes are of so many points.
 _SIX = 6
+_CUBIC = (3, 1, 1, 1, 1, 1, 1)
 
 
 def is_renaming(n, value):
@@ -69,7 +71,7 @@ def third(one, other):
     _check_exceptional(_SIX, other)
     if product_of(one, other) != 1:
         raise Refused(("apart",))
-    return plus_times(plus_times(cubic(_SIX), -1, one), -1, other)
+    return _third(one, other)
 
 
 def threes():
@@ -78,9 +80,10 @@ def threes():
     found = []
     for at, one in enumerate(rows):
         for other in rows[at + 1:]:
-            if product_of(one, other) == 1 and third(one, other) > other:
-                found.append((one, other, third(one, other)))
-    return tuple(found)
+            if product_of(one, other) == 1:
+                found.append((one, other, _third(one, other)))
+    # Each three is found by each two of its rows, and ascends once.
+    return tuple([three for three in found if three[1] < three[2]])
 
 
 def threes_of(row):
@@ -100,17 +103,23 @@ def other_half(six):
 
 def sixes():
     """All double sixes, each with the lesser six first, ascending."""
-    both = [(six, _other_half(six)) for six in whole_lots(_SIX)]
-    return tuple([pair for pair in both if pair[0] < pair[1]])
+    rows = exceptional_rows(_SIX)
+    found = []
+    # The rows that meet a root once, and those that meet it -1 times, are a double six; each
+    # double six comes of one root and its opposite.
+    for root in roots(_SIX):
+        if is_up(root):
+            times = [product_of(row, root) for row in rows]
+            halves = [tuple([row for row, many in zip(rows, times) if many == told]) for told in (1, -1)]
+            found.append(tuple(sorted(halves)))
+    return tuple(sorted(found))
 
 
 def partner(row):
     """The row that an exceptional row of seven points meets twice, or of eight points three times."""
     if not _is_exceptional_of(7, row) and not _is_exceptional_of(8, row):
         raise InvalidRow("no exceptional row of seven or eight points")
-    # Partners add up to the cubic of seven points, or to twice that of eight.
-    turned = [-entry for entry in row]
-    return plus_times(turned, len(row) - 7, cubic(len(row) - 1))
+    return _partner(row)
 
 
 def pairs(n):
@@ -118,7 +127,8 @@ def pairs(n):
     check_many(n, FINITE_POINTS)
     if n < 7:
         raise InvalidNumber(n)
-    return tuple([(row, partner(row)) for row in exceptional_rows(n) if row < partner(row)])
+    both = [(row, _partner(row)) for row in exceptional_rows(n)]
+    return tuple([pair for pair in both if pair[0] < pair[1]])
 
 
 def _is_exceptional_of(n, value):
@@ -169,6 +179,18 @@ def _bar(n, names):
             if product_of(stand[at], stand[where]) != rows[where][at + 1]:
                 return (rows[at], rows[where])
     return None
+
+
+def _third(one, other):
+    """What two rows lack to the cubic of six points; nothing is checked."""
+    return tuple([entry - left - right for entry, left, right in zip(_CUBIC, one, other)])
+
+
+def _partner(row):
+    """The partner of a row of seven or eight points; nothing is checked."""
+    # Partners add up to the cubic of seven points, or to twice that of eight.
+    times = len(row) - 7
+    return (3 * times - row[0],) + tuple([times - number for number in row[1:]])
 
 
 def _other_half(six):

@@ -167,8 +167,8 @@ class Settled(unittest.TestCase):
                 (10 ** 199 + 1, -10 ** 199) + (5 * 10 ** 198,) * 8]
         for row in told:
             self.assertGreater(with_cubic(row), 0)
-            # Not a single move is made to tell that these are too far.
-            with unittest.mock.patch.object(module, "do_move", side_effect=AssertionError):
+            # No walk is begun to tell that these are too far.
+            with unittest.mock.patch.object(module, "_ranked", side_effect=AssertionError):
                 for call in (settled, settling, steps, count, has_curves, bar, parts, met_below, is_free, met, free_word, is_one_curve,
                              pencil_of, has_base_point):
                     too_many(self, 2000, call, row)

@@ -4,7 +4,7 @@ from timesthrough.count.steps import barring, finish, is_cubic_times, is_free_ro
 from timesthrough.errors import InvalidPoints, TooMany
 from timesthrough.plane.forms import count_at
 from timesthrough.plane.points import are_points
-from timesthrough.rows.moves import moved, undone
+from timesthrough.rows.moves import led_back
 from timesthrough.rows.rows import check_few, counting_of, cubic, is_row, product_of
 
 
@@ -36,7 +36,7 @@ def bar(row):
         return None if is_cubic_times(row) else cubic(len(row) - 1)
     word, end = settle(row)
     plain = barring(end)
-    return None if plain is None else moved(plain, undone(word))
+    return None if plain is None else led_back(plain, word)
 
 
 def is_bar(row, value):

@@ -3,7 +3,7 @@
 from timesthrough.count.steps import is_cubic_times, is_free_row, is_level_or_below, settle, stands
 from timesthrough.errors import InvalidOperation
 from timesthrough.rows.exceptional import is_exceptional
-from timesthrough.rows.moves import is_word, moved, moved_far, undone
+from timesthrough.rows.moves import is_word, led_back, moved_far
 from timesthrough.rows.rows import FEW_POINTS, check_few, cubic, is_row, point_row, product_of, product_with_cubic
 
 
@@ -31,14 +31,13 @@ def is_free_word(row, value):
 
 def met(row):
     """A bar of freedom, None if the row is free."""
-    if is_free(row):
-        return None
+    check_few(row)
     many = len(row) - 1
     if is_level_or_below(row):
-        return cubic(many)
+        return None if is_cubic_times(row) else cubic(many)
+    word, end = settle(row)
     # The settled row would be standard if its last number were not below 0.
-    word, _ = settle(row)
-    return moved(point_row(many, many - 1), undone(word))
+    return None if stands(end) else led_back(point_row(many, many - 1), word)
 
 
 def is_met(row, value):

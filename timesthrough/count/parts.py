@@ -5,7 +5,7 @@ from timesthrough.count.counts import count
 from timesthrough.count.steps import barring, finish, is_cubic_times, is_level_or_below, settle
 from timesthrough.errors import InvalidRow, Refused
 from timesthrough.rows.exceptional import exceptional_rows
-from timesthrough.rows.moves import moved, undone
+from timesthrough.rows.moves import led_back
 from timesthrough.rows.rows import FEW_POINTS, FINITE_POINTS, check_few, counting_of, plus_times, point_row
 from timesthrough.rows.rows import product_of, short_row
 
@@ -85,7 +85,7 @@ def _taken_off(word, end):
     found = []
     for step in finish(end)[0]:
         if step[0] == "off":
-            found.append(moved(point_row(many, step[1]), undone(word)))
+            found.append(led_back(point_row(many, step[1]), word))
         else:
             word = word + (step,)
     return found

@@ -114,27 +114,32 @@ def settle(row):
     # By the shadow the walk chooses among points with equal numbers: so it is that of a row
     # just beside the given one, which has no equal numbers on its way. A standard row that
     # is led back by its word has no longer walk than this.
-    entries, shadow = list(row), list(shadow_row(len(row) - 1))
+    shadow = shadow_row(len(row) - 1)
+    degree, shade = row[0], shadow[0]
+    ranked = _ranked(row, shadow)
     word = []
-    places = _falling(entries, shadow)
-    while entries[0] < sum([entries[at + 1] for at in places[:3]]):
+    change = degree - ranked[0][0] - ranked[1][0] - ranked[2][0]
+    while change < 0:
         if len(word) == MOST_TURNS:
             raise TooMany(MAX_STEPS)
-        turn = ("turn",) + tuple(sorted(places[:3]))
-        do_move(entries, turn)
-        do_move(shadow, turn)
-        word.append(turn)
-        places = _falling(entries, shadow)
-    word.extend(_sorting_swaps(places))
-    return tuple(word), tuple([entries[0]] + [entries[at + 1] for at in places])
+        (one, one_shade, i), (two, two_shade, j), (three, three_shade, k) = ranked[:3]
+        other = shade - one_shade - two_shade - three_shade
+        word.append(("turn",) + tuple(sorted([i, j, k])))
+        turned = [(one + change, one_shade + other, i), (two + change, two_shade + other, j),
+                  (three + change, three_shade + other, k)]
+        ranked = sorted(turned + ranked[3:], reverse=True)
+        degree, shade = degree + change, shade + other
+        change = degree - ranked[0][0] - ranked[1][0] - ranked[2][0]
+    word.extend(_sorting_swaps([rank[2] for rank in ranked]))
+    return tuple(word), (degree,) + tuple([rank[0] for rank in ranked])
 
 
 def falling_turn(entries):
     """The next turn of the falling walk, None at its end; of equal numbers the first ones are taken."""
-    places = _falling(entries, shadow_row(len(entries) - 1))[:3]
-    if entries[0] >= sum([entries[at + 1] for at in places]):
+    ranked = _ranked(entries, shadow_row(len(entries) - 1))[:3]
+    if entries[0] >= sum([rank[0] for rank in ranked]):
         return None
-    return ("turn",) + tuple(sorted(places))
+    return ("turn",) + tuple(sorted([rank[2] for rank in ranked]))
 
 
 def barring(end):
@@ -187,10 +192,9 @@ def _settled_and_word(row):
     return short_row(end), word
 
 
-def _falling(entries, shadow):
-    """The points, those with the greatest numbers first."""
-    ranked = [(entries[at], shadow[at], at - 1) for at in range(1, len(entries))]
-    return [rank[2] for rank in sorted(ranked, reverse=True)]
+def _ranked(entries, shadow):
+    """The number, that of the shadow and the index of each point, those with the greatest numbers first."""
+    return sorted([(entries[at], shadow[at], at - 1) for at in range(1, len(entries))], reverse=True)
 
 
 def _sorting_swaps(places):

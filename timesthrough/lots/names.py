@@ -5,7 +5,7 @@ from timesthrough.errors import InvalidLot, InvalidName, InvalidNumber, InvalidR
 from timesthrough.lots.apart import are_apart, line_with
 from timesthrough.mirrors.roots import is_up, roots
 from timesthrough.rows.exceptional import exceptional_rows, is_exceptional
-from timesthrough.rows.moves import map_of, taken_by, undone
+from timesthrough.rows.moves import map_of, taken_by
 from timesthrough.rows.rows import FINITE_POINTS, check_many, is_row, point_row, product_of
 
 # Threes and sixes are of so many points.
@@ -36,7 +36,7 @@ def names_word(n, names):
     if any([tuple(taken_by(row, rows)) != names[row] for row in names]):
         return None
     # What leads the shadow row back, behind the map, undoes the map.
-    return undone(settle(taken_by(shadow_row(n), rows))[0])
+    return settle(taken_by(shadow_row(n), rows))[0][::-1]
 
 
 def names_bar(n, names):

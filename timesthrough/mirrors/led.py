@@ -1,11 +1,11 @@
 """Rows that are led to one another, and the roots that keep a row."""
 
-from timesthrough.count.steps import settle
+from timesthrough.count.steps import settle, shadow_row
 from timesthrough.errors import Refused, TooMany
 from timesthrough.mirrors.diagrams import kinds_of
 from timesthrough.mirrors.roots import group_order, is_root, is_up, move_of, root_of, roots, turned_far
-from timesthrough.rows.moves import check_word, do_move, is_word, moved_far, undone, unit_rows
-from timesthrough.rows.rows import FINITE_POINTS, check_few, check_rows, plus_times, product_of, short_row
+from timesthrough.rows.moves import check_word, do_move, is_word, moved_far, unit_rows
+from timesthrough.rows.rows import FINITE_POINTS, check_few, check_rows, product_of, short_row
 
 _MOST_LED_ROWS = 2000
 _MOST_TURNS = 120
@@ -16,7 +16,7 @@ def led(one, other):
     _check_two(one, other)
     word, end = settle(one)
     other_word, other_end = settle(other)
-    return word + undone(other_word) if end == other_end else None
+    return word + other_word[::-1] if end == other_end else None
 
 
 def does_lead(one, other, value):
@@ -57,15 +57,16 @@ def through_keepers(row, word):
     """At most 120 keepers; turning about them, from the left, acts alike as the word."""
     _check_kept(row, word)
     good = [root for root in keepers(row) if is_up(root)]
-    images = {root: tuple(moved_far(root, word)) for root in good}
+    # A root is positive just if it meets the shadow row above 0 times. Words keep products:
+    # so the shadow row is led back in the place of leading each root.
+    shadow = moved_far(shadow_row(len(row) - 1), word[::-1])
     found = []
-    root = _turned_one(images)
+    root = _turned_one(good, shadow)
     # Each turn about a root that is turned over leaves fewer of them that are.
     while root is not None:
         found.append(root)
-        image = images[root]
-        images = {other: plus_times(images[other], product_of(other, root), image) for other in good}
-        root = _turned_one(images)
+        shadow = turned_far(shadow, root)
+        root = _turned_one(good, shadow)
     return tuple(found)
 
 
@@ -134,9 +135,9 @@ def _order_of_kind(letter, size):
     return order
 
 
-def _turned_one(images):
-    """A root whose image is not positive, None if there is none."""
-    for root in images:
-        if not is_up(images[root]):
+def _turned_one(some, shadow):
+    """One of the roots that meets the shadow row below 0, None if there is none."""
+    for root in some:
+        if product_of(root, shadow) < 0:
             return root
     return None

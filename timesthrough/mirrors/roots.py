@@ -3,7 +3,7 @@
 from timesthrough.base.values import is_from_to
 from timesthrough.count.steps import settle, shadow_row
 from timesthrough.errors import InvalidRow, InvalidWord
-from timesthrough.rows.moves import check_word, do_move, moved_far, undone
+from timesthrough.rows.moves import check_word, do_move, moved_far
 from timesthrough.rows.rows import FINITE_POINTS, check_many, check_row, is_row, plus_times, product_of
 from timesthrough.rows.rows import product_with_cubic, short_row
 from timesthrough.rows.tables import ROOTS
@@ -69,7 +69,7 @@ def turned_roots(n, word):
     _check_word(n, word)
     # A root is positive just if it meets the shadow row above 0 times. Words keep products:
     # so the shadow row may be led back in the place of leading each root.
-    shadow = moved_far(shadow_row(n), undone(word))
+    shadow = moved_far(shadow_row(n), word[::-1])
     return tuple([root for root in roots(n) if is_up(root) and product_of(root, shadow) < 0])
 
 

@@ -5,7 +5,6 @@ from timesthrough.count.steps import settle, shadow_row
 from timesthrough.errors import InvalidNumber, InvalidRow, TooMany
 from timesthrough.mirrors.roots import roots
 from timesthrough.rows.exceptional import is_exceptional
-from timesthrough.rows.moves import undone
 from timesthrough.rows.rows import FEW_POINTS, FINITE_POINTS, MOST_DIGITS, check_row, is_row, plus_times
 from timesthrough.rows.rows import product_of, product_with_cubic, short_row
 
@@ -115,7 +114,7 @@ def led_nine(one, other):
     # Words lead rows to one another just as they lead those with all signs changed.
     sign = 1 if f > 0 else -1
     words = [settle([sign * entry for entry in row])[0] for row in (one, other)]
-    return words[0] + undone(words[1])
+    return words[0] + words[1][::-1]
 
 
 def are_led_nine(one, other):
@@ -206,7 +205,7 @@ def _level_word(one, other):
     _, other_u, other_c = _unfolded(other)
     word, end = settle(u)
     other_word, _ = settle(other_u)
-    return word + _word_of_shift(_lattice_row_with(end, c - other_c)) + undone(other_word)
+    return word + _word_of_shift(_lattice_row_with(end, c - other_c)) + other_word[::-1]
 
 
 def _lattice_row_with(u, number):

@@ -3,7 +3,6 @@
 from timesthrough.base.values import are_short, is_integer
 from timesthrough.count.steps import settle
 from timesthrough.errors import InvalidNumber, InvalidOperation, TooMany
-from timesthrough.rows.moves import undone
 from timesthrough.rows.rows import FINITE_POINTS, MOST_DIGITS, check_few, check_many, product_of, product_with_cubic
 from timesthrough.rows.tables import EXCEPTIONAL
 
@@ -28,7 +27,7 @@ def word_to(row):
     if not is_exceptional(row):
         raise InvalidOperation("no exceptional row")
     word, _ = settle(row)
-    return undone(word)
+    return word[::-1]
 
 
 def meetings(row):

@@ -110,6 +110,11 @@ def moved_far(row, word):
     return entries
 
 
+def led_back(row, word):
+    """The row from which a word leads to this one; nothing is checked but how long its entries are."""
+    return short_row(moved_far(row, word[::-1]))
+
+
 def taken_by(row, told_map):
     """The entries to which a map takes a row, however long; nothing is checked."""
     factors = [row[0]] + [-number for number in row[1:]]

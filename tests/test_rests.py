@@ -39,6 +39,20 @@ def is_reduced(table):
     return columns and leads == sorted(set(leads))
 
 
+def cleared(prime, table):
+    """The reduced table, rest by rest."""
+    rows, many = [list(row) for row in table], 0
+    for column in range(len(rows[0])):
+        filled = [at for at in range(many, len(rows)) if rows[at][column]]
+        if filled:
+            lead = rows.pop(filled[0])
+            lead = [rest * pow(lead[column], -1, prime) % prime for rest in lead]
+            rows = [[(rest - row[column] * led) % prime for rest, led in zip(row, lead)] for row in rows]
+            rows.insert(many, lead)
+            many += 1
+    return tuple(tuple(row) for row in rows[:many])
+
+
 class Primes(unittest.TestCase):
 
     def test_constants(self):
@@ -167,6 +181,20 @@ class Tables(unittest.TestCase):
         goal = (1,) + (0,) * 199
         self.assertIsNone(solution(prime, doubled, goal))
         self.assertIs(is_goal_bar(prime, doubled, goal, goal_bar(prime, doubled, goal)), True)
+
+    def test_reduced_rest_by_rest(self):
+        chance = random.Random(6)
+        for prime in (5, 101, 65519, 65521):
+            for rows, columns in ((1, 1), (1, 9), (9, 1), (7, 7), (12, 30), (30, 12), (40, 41)):
+                # In a table of the greatest rests each one grows most on the way.
+                for table in (random_table(chance, prime, rows, columns), ((prime - 1,) * columns,) * rows,
+                              tuple(tuple(prime - 1 - (i * j + i) % 2 for j in range(columns)) for i in range(rows)),
+                              tuple(tuple(chance.randint(prime - 3, prime - 1) for _ in range(columns)) for _ in range(rows))):
+                    told = cleared(prime, table)
+                    self.assertEqual((reduced(prime, table), rank(prime, table)), (told, len(told)))
+        table = tuple(tuple(chance.randint(65500, 65520) for _ in range(200)) for _ in range(200))
+        told = cleared(65521, table)
+        self.assertEqual((reduced(65521, table), rank(65521, table)), (told, len(told)))
 
     def test_arguments_stay(self):
         table, goal = ((1, 2), (3, 4)), (5, 6)

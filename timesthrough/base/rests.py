@@ -7,6 +7,10 @@ LEAST_PRIME = 5
 MOST_PRIME = 65521
 MAX_SIDE = 200
 
+# A digit has so many bits: to none more than 200 times a product of two rests are added.
+_DIGIT = 48
+_MOST_IN_DIGIT = 2 ** 48 - 1
+
 # Each number up to MOST_PRIME that is no prime has a divisor below this one.
 _DIVISORS_END = 256
 
@@ -44,7 +48,8 @@ def is_table(prime, value):
 
 def rank(prime, table):
     """How many rows the reduced table has."""
-    return len(reduced(prime, table))
+    _check_table(prime, table)
+    return rank_of(prime, table, _width(table))
 
 
 def reduced(prime, table):
@@ -115,15 +120,12 @@ def rest_of_product(prime, one, other):
 
 def reduced_rows(prime, table, width):
     """The rows of the reduced table, as tuples; nothing is checked."""
-    rows = [list(row) for row in table]
-    many = 0
-    for column in range(width):
-        at = _filled_row(rows, many, column)
-        if at is not None:
-            rows[many], rows[at] = rows[at], rows[many]
-            _clear_column(prime, rows, many, column)
-            many += 1
-    return [tuple(row) for row in rows[:many]]
+    return [tuple(_digits(prime, number, width)) for number in _reduced_numbers(prime, table, width)]
+
+
+def rank_of(prime, table, width):
+    """The rank of a table with so many columns; nothing is checked."""
+    return len(_reduced_numbers(prime, table, width))
 
 
 def kernel_rows(prime, table, width):
@@ -166,20 +168,48 @@ def _check_goal(prime, table, goal):
         raise InvalidTable("no goal of the table")
 
 
-def _filled_row(rows, first, column):
-    for at in range(first, len(rows)):
-        if rows[at][column] != 0:
+def _reduced_numbers(prime, table, width):
+    """The rows of the reduced table, each as a number that has its rests as digits, modulo the prime.
+
+    So a multiple of a row is added to another one at one go.
+    """
+    numbers = [_number(row) for row in table]
+    many = 0
+    for column in range(width):
+        if many == len(numbers):
+            break
+        place = _DIGIT * (width - 1 - column)
+        rests = [(number >> place & _MOST_IN_DIGIT) % prime for number in numbers]
+        at = _filled(rests, many)
+        if at is not None:
+            scale = inverse(prime, rests[at])
+            lead = _number([rest * scale % prime for rest in _digits(prime, numbers[at], width)])
+            numbers[at], rests[at] = numbers[many], rests[many]
+            numbers[many], rests[many] = lead, 0
+            numbers = [number + (prime - rest) * lead if rest != 0 else number for number, rest in zip(numbers, rests)]
+            many += 1
+    return numbers[:many]
+
+
+def _number(rests):
+    total = 0
+    for rest in rests:
+        total = (total << _DIGIT) + rest
+    return total
+
+
+def _digits(prime, number, width):
+    """The digits of a number, modulo the prime."""
+    found = []
+    for _ in range(width):
+        found.append((number & _MOST_IN_DIGIT) % prime)
+        number = number >> _DIGIT
+    return found[::-1]
+
+
+def _filled(rests, first):
+    """The least index from the first one on at which a rest is not 0, None if there is none."""
+    for at in range(first, len(rests)):
+        if rests[at] != 0:
             return at
     return None
-
-
-def _clear_column(prime, rows, many, column):
-    """Makes the row at index many a leading one, and all others 0 at its column."""
-    scale = inverse(prime, rows[many][column])
-    lead = [rest * scale % prime for rest in rows[many][column:]]
-    rows[many][column:] = lead
-    for at in range(len(rows)):
-        times = rows[at][column]
-        if at != many and times != 0:
-            tail = rows[at][column:]
-            rows[at][column:] = [(rest - times * led) % prime for rest, led in zip(tail, lead)]

@@ -1,6 +1,6 @@
 """Polynomials in three unknowns over a prime, and those that pass through points."""
 
-from timesthrough.base.rests import check_prime, kernel_rows, reduced_rows
+from timesthrough.base.rests import check_prime, kernel_rows, rank_of
 from timesthrough.base.values import is_from_to
 from timesthrough.errors import InvalidForm, InvalidNumber, InvalidRow, TooMany
 from timesthrough.plane.points import check_point, check_points, last_filled
@@ -125,7 +125,7 @@ def count_at(prime, points, row):
     """The count of the row at these points."""
     _check_asked(prime, points, row)
     columns = _columns(row[0])
-    return len(columns) - len(reduced_rows(prime, _table(prime, points, row), len(columns)))
+    return len(columns) - rank_of(prime, _table(prime, points, row), len(columns))
 
 
 def vanishing(prime, degree, point, order):

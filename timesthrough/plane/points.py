@@ -1,6 +1,6 @@
 """Points of the plane over a prime."""
 
-from timesthrough.base.rests import are_rests, check_prime, inverse, reduced_rows
+from timesthrough.base.rests import are_rests, check_prime, inverse, rank_of
 from timesthrough.base.values import choices, is_integer
 from timesthrough.errors import InvalidPoints
 
@@ -113,10 +113,10 @@ def _scaled(prime, rests):
 
 
 def _are_in_line(prime, points):
-    return len(reduced_rows(prime, points, 3)) < 3
+    return rank_of(prime, points, 3) < 3
 
 
 def _are_on_conic(prime, points):
     squares = [(x * x, x * y, x * z, y * y, y * z, z * z) for x, y, z in points]
     table = [[entry % prime for entry in row] for row in squares]
-    return len(reduced_rows(prime, table, _CONIC_TERMS)) < _CONIC_TERMS
+    return rank_of(prime, table, _CONIC_TERMS) < _CONIC_TERMS

@@ -1,7 +1,7 @@
 """Change rows: those to which the row of lines is led."""
 
 from timesthrough.base.values import is_from_to
-from timesthrough.count.steps import MAX_STEPS, MOST_TURNS, falling_turn
+from timesthrough.count.steps import MOST_TURNS, fallen, falling_turn
 from timesthrough.errors import InvalidNumber, TooMany
 from timesthrough.mirrors.led import led_rows
 from timesthrough.rows.moves import do_move, map_of
@@ -16,7 +16,7 @@ def is_change_row(value):
     if not is_row(value):
         return False
     try:
-        return _word(value) is not None
+        return _is_change(value)
     except TooMany:
         return False
 
@@ -41,16 +41,19 @@ def change_rows(n):
     return led_rows(line_row(n))
 
 
+def _is_change(row):
+    """Whether the row is a change row; TooMany if it is too far."""
+    return fallen(row, MOST_TURNS) == (1, [0] * (len(row) - 1))
+
+
 def _word(row):
     """The turns of the falling walk of a change row, the last one first; None for other rows."""
+    if not _is_change(row):
+        return None
     entries = list(row)
     turns = []
-    while entries[0] >= 1 and min(entries[1:]) >= 0:
+    while entries[0] > 1:
         turn = falling_turn(entries)
-        if turn is None:
-            return tuple(turns[::-1]) if tuple(entries) == line_row(len(row) - 1) else None
-        if len(turns) == MOST_TURNS:
-            raise TooMany(MAX_STEPS)
         do_move(entries, turn)
         turns.append(turn)
-    return None
+    return tuple(turns[::-1])

@@ -142,6 +142,28 @@ def falling_turn(entries):
     return ("turn",) + tuple(sorted([rank[2] for rank in ranked]))
 
 
+def fallen(row, most):
+    """The degree and the numbers, ascending, to which a row of any number of points falls.
+
+    The walk goes on while the degree is above 0 and no number is below 0; TooMany if it has
+    more turns than the most.
+    """
+    # Which point has which number matters to no turn.
+    degree, numbers = row[0], sorted(row[1:])
+    turns = 0
+    while degree > 0 and numbers[0] >= 0:
+        one, two, three = numbers[-3:]
+        over = one + two + three - degree
+        if over <= 0:
+            return degree, numbers
+        if turns == most:
+            raise TooMany(MAX_STEPS)
+        turns += 1
+        degree = degree - over
+        numbers = sorted(numbers[:-3] + [one - over, two - over, three - over])
+    return degree, numbers
+
+
 def barring(end):
     """A standard row that meets the end of a falling walk below 0; None if there are curves."""
     # If the end meets these two at least 0 times, it meets the other plain rows, as

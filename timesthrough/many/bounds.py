@@ -1,6 +1,6 @@
 """Rows of ten points and more: bounds of their counts, and rows that are led to a point row."""
 
-from timesthrough.count.steps import falling_turn
+from timesthrough.count.steps import fallen, falling_turn
 from timesthrough.errors import InvalidRow, TooMany
 from timesthrough.plane.forms import count_at
 from timesthrough.plane.points import check_points
@@ -110,18 +110,5 @@ def _high(prime, points, row, end):
 
 
 def _is_led(row):
-    """Whether turns at three greatest numbers end at a point row."""
-    degree = row[0]
-    numbers = sorted(row[1:])
-    turns = 0
-    while numbers[0] >= 0 and degree > 0:
-        a, b, c = numbers[-3:]
-        over = a + b + c - degree
-        if over <= 0:
-            return False
-        turns += 1
-        if turns > MOST_STEPS:
-            raise TooMany(MOST_STEPS)
-        degree = degree - over
-        numbers = sorted(numbers[:-3] + [a - over, b - over, c - over])
-    return degree == 0 and numbers == [-1] + [0] * (len(row) - 2)
+    """Whether turns at three greatest numbers end at a point row; TooMany if they are too many."""
+    return fallen(row, MOST_STEPS) == (0, [-1] + [0] * (len(row) - 2))

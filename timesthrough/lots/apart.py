@@ -93,14 +93,14 @@ def lots_count(n, size, kind="points"):
 def whole_lots(n):
     """All whole lots whose rows ascend, ascending."""
     check_many(n, _MOST_LISTED)
-    found = [((), exceptional_rows(n))]
+    rows = exceptional_rows(n)
+    are_far = [[product_of(one, other) == 0 for other in rows] for one in rows]
+    # Each lot so far, by indices, with those of the rows behind its last one that are apart from all.
+    found = [((), list(range(len(rows))))]
     for _ in range(n):
-        longer = []
-        for lot, left in found:
-            for at, row in enumerate(left):
-                longer.append((lot + (row,), [other for other in left[at:] if product_of(row, other) == 0]))
-        found = longer
-    return tuple([lot for lot, _ in found])
+        found = [(lot + (at,), [other for other in left if other > at and are_far[at][other]])
+                 for lot, left in found for at in left]
+    return tuple([tuple([rows[at] for at in lot]) for lot, _ in found])
 
 
 def blown_down(row, lot):

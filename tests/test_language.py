@@ -60,6 +60,78 @@ def bound(tree):
     return names
 
 
+MODIFYING = set("append clear extend insert pop remove reverse setdefault sort update".split())
+PASSING = set("enumerate zip reversed".split())
+
+
+def places(node):
+    """The places whose value an expression may be itself: names, fields of any object, items."""
+    if isinstance(node, ast.IfExp):
+        return places(node.body) | places(node.orelse)
+    if isinstance(node, ast.BoolOp):
+        return set().union(*(places(value) for value in node.values))
+    if isinstance(node, ast.Attribute):
+        return {"." + node.attr}
+    return {ast.unparse(node)} if isinstance(node, (ast.Name, ast.Subscript)) else set()
+
+
+def walked_places(node):
+    """The places that a loop over this expression walks."""
+    if isinstance(node, ast.Call):
+        if isinstance(node.func, ast.Name) and node.func.id in PASSING:
+            return set().union(*(walked_places(part) for part in node.args))
+        if isinstance(node.func, ast.Attribute) and node.func.attr in ("items", "keys", "values"):
+            return places(node.func.value)
+    return places(node)
+
+
+def same_places(function):
+    """For each place of a function all that an assignment, at any time, may make the same list."""
+    groups = {}
+    for node in ast.walk(function):
+        pairs = []
+        if isinstance(node, ast.Assign):
+            for target in node.targets:
+                if isinstance(target, ast.Tuple) and isinstance(node.value, ast.Tuple):
+                    pairs.extend(zip(target.elts, node.value.elts))
+                else:
+                    pairs.append((target, node.value))
+        for target, value in pairs:
+            joined = places(target) | places(value)
+            for place in list(joined):
+                joined |= groups.get(place, set())
+            for place in joined:
+                groups[place] = joined
+    return groups
+
+
+def changed_places(node):
+    """The places whose lists a piece of code changes, each with its line."""
+    for part in ast.walk(node):
+        if isinstance(part, ast.Call) and isinstance(part.func, ast.Attribute) and part.func.attr in MODIFYING:
+            yield from ((place, part.lineno) for place in places(part.func.value))
+        elif isinstance(part, ast.Subscript) and not isinstance(part.ctx, ast.Load):
+            yield from ((place, part.lineno) for place in places(part.value))
+        elif isinstance(part, ast.AugAssign):
+            yield from ((place, part.lineno) for place in places(part.target))
+
+
+def changed_while_walked(function):
+    """The lines that change what a loop or a comprehension around them walks (L23)."""
+    groups = same_places(function)
+    found = []
+    for node in ast.walk(function):
+        if isinstance(node, ast.For):
+            walked, bodies = walked_places(node.iter), node.body
+        elif isinstance(node, (ast.ListComp, ast.DictComp, ast.SetComp, ast.GeneratorExp)):
+            walked, bodies = set().union(*(walked_places(part.iter) for part in node.generators)), [node]
+        else:
+            continue
+        same = set().union(walked, *(groups.get(place, set()) for place in walked))
+        found.extend(line for body in bodies for place, line in changed_places(body) if place in same)
+    return sorted(set(found))
+
+
 def is_docstring(node):
     return isinstance(node, ast.Expr) and isinstance(node.value, ast.Constant) and isinstance(node.value.value, str)
 
@@ -221,6 +293,26 @@ class Language(unittest.TestCase):
                 self.assertIn(getattr(node.parent.func, "id", None), ("len", "sorted"), spot)
             for keyword in node.keywords:
                 self.assertEqual((name, keyword.arg), ("sorted", "reverse"), spot)
+
+    def test_what_a_loop_walks_is_not_changed_in_it(self):
+        for node, spot in self.each(ast.FunctionDef):
+            self.assertEqual(changed_while_walked(node), [], spot)
+
+    def test_the_look_at_loops_sees_changes(self):
+        loops = {
+            "for x in xs:\n  xs.append(x)": [2],
+            "for x in xs:\n  ys.append(x)": [],
+            "ys = xs\nfor x in xs:\n  ys.append(x)": [3],
+            "last = [0]\nwhile last:\n  new = []\n  for x in last:\n    new.append(x)\n  last = new": [5],
+            "last = [0]\nwhile last:\n  new = []\n  for x in list(last):\n    new.append(x)\n  last = new": [],
+            "for k, x in enumerate(self.rows):\n  other.rows[k] = x": [2],
+            "for k, x in (d if c else e).items():\n  e.pop(k)": [2],
+            "ys = xs or zs\nfor x in ys:\n  zs += [x]": [3],
+            "a, b = b, c\nfor x in a:\n  c.insert(0, x)": [3],
+            "ys = [xs.pop() for x in xs]": [1],
+        }
+        for text, lines in loops.items():
+            self.assertEqual(changed_while_walked(ast.parse(text)), lines, text)
 
     def test_each_interface_name_stands_in_its_file(self):
         told = {

@@ -2,6 +2,7 @@ import random
 import unittest
 from itertools import product as every
 from math import gcd
+from zlib import crc32
 
 from tests.kit import FIVE, GREATEST, are_plain, caught, climbed, near_values, refuses, too_many, wrong_values
 from tests.test_free import orbit
@@ -25,6 +26,10 @@ NO_NINES = FEW + [cubic(n) for n in range(3, 9)]
 NO_LATTICE = NO_ROWS + [cubic(n) for n in range(3, 12)] + [
     (0, 1, -1, 0, 0, 0, 0, 0), (0, 1, -1) + (0,) * 7, (1, 1, 1, 0, 0, 0, 0, 0, 0), (0, 1, 0, 0, 0, 0, 0, 0, 0),
     (0, True, -1, 0, 0, 0, 0, 0, 0), list(A)]
+
+# What check sums tell of words that are to stay as they are.
+SHIFT_SUMS = [2555245823, 3416399727, 2825414654]
+WORD_SUM = 2295978430
 
 
 def lattice_row(chance, most=4):
@@ -291,6 +296,32 @@ class Ends(unittest.TestCase):
             self.assertEqual(by_hand(one, word), other)
             self.assertIs(are_led_nine(one, other), True)
             many[end_of(one)[0]] += 1
+
+    def test_level_words_stay(self):
+        # Any word would do: these are the ones that were returned from the start.
+        word = (("turn", 0, 2, 3), ("turn", 0, 4, 5), ("turn", 0, 6, 7), ("swap", 0, 6), ("swap", 1, 7), ("swap", 2, 4),
+                ("swap", 3, 5), ("swap", 6, 7), ("turn", 1, 2, 7), ("turn", 3, 4, 7), ("turn", 5, 6, 8), ("turn", 3, 4, 7),
+                ("turn", 1, 2, 7), ("swap", 0, 7), ("swap", 6, 7), ("swap", 3, 5), ("swap", 2, 4), ("swap", 1, 7),
+                ("swap", 0, 6), ("turn", 0, 6, 7), ("turn", 0, 4, 5), ("turn", 0, 2, 3))
+        self.assertEqual(led_nine(nine(A), folded(0, A, 1)), word)
+        self.assertEqual(led_nine(multiplied(5, K), multiplied(5, K)), ())
+        self.assertEqual([crc32(repr(shift_word(w)).encode()) for w in (A, multiplied(2, A), (3, 2) + (1,) * 7)],
+                         SHIFT_SUMS)
+        chance = random.Random(84)
+        words = []
+        while len(words) < 250:
+            u = multiplied(chance.choice((1, 1, 2, 3)), lattice_row(chance, chance.choice((1, 2, 4))))
+            one = folded(0, u, chance.randint(-15, 15))
+            other = folded(0, u[:1] + tuple(chance.sample(u[1:], 8)), chance.randint(-15, 15))
+            if not self.small(one) or not self.small(other):
+                continue
+            word = led_nine(one, other)
+            self.assertIs(are_led_nine(one, other), word is not None)
+            if word is not None:
+                self.assertEqual(by_hand(one, word), other)
+            words.append(word)
+        self.assertTrue(50 < words.count(None) < 200)
+        self.assertEqual(crc32(repr(words).encode()), WORD_SUM)
 
     def test_led_nine_hard(self):
         u = (0, -1, 1, 0, 0, 0, 0, 0, 0)

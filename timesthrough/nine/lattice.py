@@ -218,7 +218,8 @@ def _lattice_row_with(u, number):
     last = [0]
     while number not in reached:
         new = []
-        for at in last:
+        # The new list is the one that is walked a round later: so it is a copy that is walked.
+        for at in list(last):
             for change in turning:
                 if at + change not in reached and abs(at + change) <= most:
                     reached[at + change] = plus_times(reached[at], 1, turning[change])

@@ -1,4 +1,5 @@
 import random
+import sys
 import unittest
 from fractions import Fraction
 from math import gcd
@@ -8,7 +9,8 @@ from timesthrough.count.counts import count, has_curves
 from timesthrough.count.parts import parts
 from timesthrough.errors import InvalidNumber, InvalidRow, Refused
 from timesthrough.rows.exceptional import exceptional_rows
-from timesthrough.rows.rows import added, cubic, line_row, multiplied, point_row, product, square, with_cubic
+from timesthrough.rows.moves import moved
+from timesthrough.rows.rows import added, cubic, less, line_row, multiplied, point_row, product, square, with_cubic
 from timesthrough.share.rays import are_free_together, rays, stretch_counts, stretch_rows
 
 TWO = ((10, 1, 2, 3, 1, 1, 1, 1, 1), (5, -4, 3, 1, -1, -1, 3, 1, 0))
@@ -37,6 +39,40 @@ def by_signs(one, other):
 
 def together(one, other, a, b):
     return added(multiplied(a, one), multiplied(b, other))
+
+
+def inside(one, other, index):
+    """The exceptional rows that a row inside a stretch meets below 0, looked for among all of them."""
+    (a, b), (c, d) = by_signs(one, other)[index:index + 2]
+    low, high = a + c, b + d
+    return tuple(row for row in exceptional_rows(len(one) - 1)
+                 if low * product(one, row) + high * product(other, row) < 0)
+
+
+def sum_of_exceptional(chance, n, most):
+    found = (0,) * (n + 1)
+    for _ in range(chance.randint(1, 9)):
+        found = added(found, multiplied(chance.randint(1, most), chance.choice(exceptional_rows(n))))
+    return found
+
+
+def whole_sum(chance, n):
+    """A sum of as many exceptional rows as points, of which no two meet, each some times."""
+    turns = tuple(("turn",) + tuple(sorted(chance.sample(range(n), 3))) for _ in range(chance.randint(0, 40)))
+    return moved((0,) + tuple(-chance.randint(1, 9) for _ in range(n)), turns)
+
+
+def calls_done(call, *args):
+    """How many functions of the package run in a call."""
+    done = []
+    sys.setprofile(lambda frame, event, _: done.append(frame) if event == "call" else None)
+    try:
+        call(*args)
+    except InvalidNumber:
+        pass
+    finally:
+        sys.setprofile(None)
+    return len(done)
 
 
 class Rays(unittest.TestCase):
@@ -92,6 +128,59 @@ class Rays(unittest.TestCase):
             self.assertEqual(together(f, g, a, b), free)
             self.assertEqual((big, mixed, last), (square(f), 2 * product(f, g), square(g)))
             self.assertEqual((first_times, last_times), (with_cubic(f), with_cubic(g)))
+
+    def test_by_all_exceptional_rows(self):
+        chance = random.Random(173)
+        seen = {0: 0, 1: 0, 2: 0}
+        for at in range(240):
+            n = 3 + at % 6
+            kind = at // 6 % 4
+            if kind == 0:
+                one, other = rows_with_curves(chance, n, 2)
+            elif kind == 1:
+                one, other = whole_sum(chance, n), whole_sum(chance, n)
+            else:
+                one, other = [sum_of_exceptional(chance, n, (5, 10 ** 198)[kind - 2]) for _ in range(2)]
+            told = by_signs(one, other)
+            self.assertEqual(rays(one, other), told)
+            self.assertIs(are_free_together(one, other), len(told) == 2)
+            for index in range(len(told) - 1):
+                taken = inside(one, other, index)
+                self.assertEqual(stretch_rows(one, other, index), taken)
+                seen[min(len(taken), 2)] += 1
+            for index in (-1, len(told) - 1, None, True):
+                for call in (stretch_rows, stretch_counts):
+                    self.assertIs(caught(self, InvalidNumber, call, one, other, index).given, index)
+        self.assertTrue(min(seen.values()) > 30)
+
+    def test_bounds_of_met_rows(self):
+        # Both rows meet as many exceptional rows below 0 as there are points, and no row twice.
+        one, other = (0,) + (-1,) * 8, (0,) * 9
+        for index in range(8):
+            far = less(multiplied(2, cubic(8)), point_row(8, index))
+            other = added(other, multiplied(index + 1, far))
+        for first, second in ((one, other), (other, one)):
+            found = rays(first, second)
+            self.assertEqual(found, by_signs(first, second))
+            for index in range(len(found) - 1):
+                self.check_stretch(first, second, found, index)
+        alike = multiplied(3, one)
+        self.assertEqual(rays(one, alike), ((1, 0), (0, 1)))
+        self.assertEqual(stretch_rows(one, alike, 0), tuple(point_row(8, index) for index in range(8)))
+        self.assertEqual(stretch_counts(one, alike, 0), (0, 0, 0, 0, 0))
+        self.assertIs(are_free_together(one, alike), True)
+
+    def test_without_a_look_at_all_exceptional_rows(self):
+        # To take the products of two rows with all 240 exceptional rows makes more than 480 calls.
+        two = ((3, 1, 1, 1, 1, 1, 1, 1, 1), (2, 1, 1, 1, 1, -1, 0, 0, 0))
+        self.assertEqual(rays(*two), ((1, 0), (1, 1), (0, 1)))
+        self.assertEqual([stretch_rows(*two, index) for index in (0, 1)], [(), (point_row(8, 4),)])
+        self.assertEqual([stretch_counts(*two, index) for index in (0, 1)], [(1, 6, -1, 1, 3), (2, 4, 0, 2, 2)])
+        self.assertIs(are_free_together(*two), False)
+        for first, second in (two, two[::-1], TWO):
+            for call, more in ((rays, ()), (are_free_together, ()), (stretch_rows, (0,)), (stretch_counts, (1,)),
+                               (stretch_rows, (99,)), (stretch_counts, (99,))):
+                self.assertTrue(calls_done(call, first, second, *more) < 400)
 
     def test_free_together(self):
         chance = random.Random(172)

@@ -59,6 +59,18 @@ def are_independent(row):
     return surplus(row) == 0
 
 
+def taken_off(word, end):
+    """The rows of the curves that steps take off behind the word, led back to ahead of it."""
+    many = len(end) - 1
+    found = []
+    for step in finish(end)[0]:
+        if step[0] == "off":
+            found.append(led_back(point_row(many, step[1]), word))
+        else:
+            word = word + (step,)
+    return found
+
+
 def _listed_below(row):
     return tuple([other for other in exceptional_rows(len(row) - 1) if product_of(row, other) < 0])
 
@@ -72,20 +84,8 @@ def _parts(row):
         return None
     free = row
     pairs = []
-    for other in _taken_off(word, end):
+    for other in taken_off(word, end):
         times = -product_of(row, other)
         free = plus_times(free, -times, other)
         pairs.append((other, times))
     return (short_row(free), tuple(sorted(pairs)))
-
-
-def _taken_off(word, end):
-    """The rows of the curves that steps take off behind the word, led back to ahead of it."""
-    many = len(end) - 1
-    found = []
-    for step in finish(end)[0]:
-        if step[0] == "off":
-            found.append(led_back(point_row(many, step[1]), word))
-        else:
-            word = word + (step,)
-    return found
